@@ -1,0 +1,1 @@
+"""Pathloom: paths over trees, stylesheets, and what holds on every document."""

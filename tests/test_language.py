@@ -1,0 +1,146 @@
+"""The form of the package's files: the rules of ../shared/LANGUAGE.md that a look at the code can tell."""
+
+import ast
+import builtins
+import os
+import unittest
+
+import pathloom
+
+FOLDER = os.path.dirname(pathloom.__file__)
+ROOT = os.path.dirname(FOLDER)
+BUILTINS = set(
+    "len range enumerate zip min max sum abs sorted reversed int str bool bytes list tuple dict set frozenset "
+    "isinstance ord repr any all divmod iter next map super property staticmethod classmethod Exception "
+    "ValueError TypeError KeyError IndexError LookupError ZeroDivisionError ArithmeticError OverflowError "
+    "RuntimeError NotImplementedError AttributeError StopIteration NotImplemented".split()
+)
+METHODS = set(
+    "append clear copy count endswith extend find get index insert isalnum isalpha isdigit islower isspace "
+    "isupper items join keys ljust lower lstrip partition pop remove replace reverse rfind rjust rpartition "
+    "rsplit rstrip setdefault split splitlines startswith strip update upper values zfill bit_length title "
+    "capitalize swapcase casefold center expandtabs removeprefix removesuffix rindex isascii isdecimal "
+    "isnumeric istitle isidentifier isprintable translate add discard encode decode hex sort __init__".split()
+)
+LIBRARY = {"heapq": {"heappush", "heappop", "heapify", "heapreplace", "heappushpop"},
+           "math": {"gcd", "lcm", "isqrt", "comb", "perm", "factorial"},
+           "itertools": {"product", "combinations", "permutations"},
+           "__future__": {"annotations"}}
+BARRED_NODES = (ast.AsyncFunctionDef, ast.Await, ast.Global, ast.Import, ast.TryStar)
+
+
+def files():
+    return sorted(os.path.join(folder, name) for folder, _, names in os.walk(FOLDER) for name in names
+                  if "__pycache__" not in folder)
+
+
+class Form(unittest.TestCase):
+    def each(self):
+        found = []
+        for path in files():
+            with open(path, encoding="utf-8") as file:
+                text = file.read()
+            found.append((path, text, ast.parse(text)))
+        return found
+
+    def test_files(self):
+        for path in files():
+            self.assertRegex(os.path.basename(path), r"\A[a-z0-9_]+\.py\Z")
+        self.assertIn(os.path.join(FOLDER, "__init__.py"), files())
+        self.assertLessEqual(len(files()), 100)
+
+    def test_characters_and_size(self):
+        for _, text, tree in self.each():
+            self.assertTrue(all(sign == "\n" or " " <= sign <= "~" for sign in text))
+            lines = text.split("\n")
+            self.assertLessEqual(len(lines) - 1, 399)
+            self.assertLessEqual(max(map(len, lines)), 120)
+            for node in ast.walk(tree):
+                if isinstance(node, ast.FunctionDef):
+                    self.assertLessEqual(node.end_lineno - node.lineno + 1, 40, node.name)
+
+    def test_statements(self):
+        for _, _, tree in self.each():
+            for node in ast.walk(tree):
+                self.assertNotIsInstance(node, BARRED_NODES)
+                if isinstance(node, ast.BinOp):
+                    self.assertNotIsInstance(node.op, ast.Div)
+                if isinstance(node, ast.Constant):
+                    self.assertNotIsInstance(node.value, (float, complex))
+                    if isinstance(node.value, str):
+                        self.assertNotIn("%", node.value)
+                        self.assertFalse(node.value.endswith(("._", ".__")), node.value)
+                if isinstance(node, ast.ExceptHandler):
+                    self.assertIsNotNone(node.type)
+
+    def test_module_level(self):
+        allowed = (ast.ImportFrom, ast.FunctionDef, ast.ClassDef, ast.Assign, ast.Expr)
+        for _, _, tree in self.each():
+            for node in tree.body:
+                self.assertIsInstance(node, allowed)
+                if isinstance(node, ast.Expr):
+                    self.assertIsInstance(node.value, ast.Constant)
+
+    def test_imports(self):
+        for _, _, tree in self.each():
+            for node in ast.walk(tree):
+                if isinstance(node, ast.ImportFrom):
+                    self.assertEqual(node.level, 0)
+                    names = [alias.name for alias in node.names]
+                    self.assertNotIn("*", names)
+                    if node.module.split(".")[0] == "pathloom":
+                        path = os.path.join(ROOT, *node.module.split(".")) + ".py"
+                        with open(path, encoding="utf-8") as file:
+                            defined = own_names(ast.parse(file.read()))
+                        self.assertLessEqual(set(names), defined)
+                    else:
+                        self.assertLessEqual(set(names), LIBRARY[node.module])
+
+    def test_no_import_in_a_circle(self):
+        known = {}
+        for path, _, tree in self.each():
+            module = "pathloom." + os.path.basename(path)[:-3]
+            known[module] = {node.module for node in tree.body if isinstance(node, ast.ImportFrom)}
+        for module in known:
+            reached, waiting = set(), list(known[module])
+            while waiting:
+                other = waiting.pop()
+                if other not in reached:
+                    reached.add(other)
+                    waiting.extend(known.get(other, ()))
+            self.assertNotIn(module, reached)
+
+    def test_called_names_and_methods(self):
+        methods = set()
+        for _, _, tree in self.each():
+            methods |= {node.name for node in ast.walk(tree) if isinstance(node, ast.FunctionDef)}
+        for _, _, tree in self.each():
+            bound = own_names(tree)
+            names = [node for node in ast.walk(tree) if isinstance(node, ast.Name)]
+            bound |= {node.id for node in names if isinstance(node.ctx, ast.Store)}
+            bound |= {node.arg for node in ast.walk(tree) if isinstance(node, ast.arg)}
+            bound |= {node.name for node in ast.walk(tree) if isinstance(node, ast.FunctionDef)}
+            for alias in [alias for node in ast.walk(tree) if isinstance(node, ast.ImportFrom) for alias in node.names]:
+                bound.add(alias.name)
+            self.assertFalse((bound - {"__init__"}) & set(dir(builtins)))
+            for node in ast.walk(tree):
+                if isinstance(node, ast.Name) and isinstance(node.ctx, ast.Load):
+                    self.assertIn(node.id, bound | BUILTINS)
+                if isinstance(node, ast.Call) and isinstance(node.func, ast.Attribute):
+                    self.assertIn(node.func.attr, METHODS | methods)
+
+    def test_docstrings(self):
+        for _, _, tree in self.each():
+            self.assertTrue(ast.get_docstring(tree))
+            for node in ast.walk(tree):
+                if isinstance(node, (ast.FunctionDef, ast.ClassDef)) and node.name != "__init__":
+                    self.assertTrue(ast.get_docstring(node), node.name)
+
+
+def own_names(tree):
+    names = {node.name for node in tree.body if isinstance(node, (ast.FunctionDef, ast.ClassDef))}
+    return names | {target.id for node in tree.body if isinstance(node, ast.Assign) for target in node.targets}
+
+
+if __name__ == "__main__":
+    unittest.main()
