@@ -7,7 +7,11 @@ from pathloom.errors import BadValue
 
 
 class Node:
-    """One node: of a root and an element the text is empty, of what has no name it is None."""
+    """One node: of a root and an element the text is empty, of what has no name it is None.
+
+    `order` is its index in the document order of its tree, `end` that of the
+    last node in it, itself among them.
+    """
 
     def __init__(self, kind, name, text):
         self.kind = kind
@@ -18,6 +22,8 @@ class Node:
         self.parent = None
         self.part = None
         self.order = 0
+        self.end = 0
+        self.tree = None
 
     def put_attribute(self, node):
         """Make a node the last attribute."""
@@ -33,13 +39,22 @@ class Node:
 
 
 class Tree:
-    """A root with all that is in it, and the list of all these nodes in document order."""
+    """A root with all that is in it, and the list of all these nodes in document order.
+
+    Of several trees that are used together each has its own `number`.
+    """
 
     def __init__(self, root):
         self.root = root
+        self.number = 0
         self.nodes = nodes_in(root)
         for order, node in enumerate(self.nodes):
             node.order = order
+            node.end = order
+            node.tree = self
+        for node in self.nodes[::-1]:
+            if node.parent is not None:
+                node.parent.end = max(node.parent.end, node.end)
 
 
 def nodes_in(top):
@@ -59,7 +74,30 @@ def string_value(node):
     """The string value of a node."""
     if node.kind not in ("root", "element"):
         return node.text
-    return "".join([part.text for part in nodes_in(node) if part.kind == "text"])
+    inside = node.tree.nodes[node.order:node.end + 1]
+    return "".join([part.text for part in inside if part.kind == "text"])
+
+
+def in_order(nodes):
+    """Nodes in document order, each once."""
+    if len(nodes) < 2:
+        return list(nodes)
+    found = {node: True for node in nodes}
+    return sorted(list(found), key=place_in_order)
+
+
+def place_in_order(node):
+    """What nodes, also of several trees, are ordered by."""
+    return (node.tree.number, node.order)
+
+
+def place_of(node):
+    """The place of a node in its tree."""
+    parts = []
+    while node.parent is not None:
+        parts.append(node.part)
+        node = node.parent
+    return tuple(parts[::-1])
 
 
 def check_tree(tree):

@@ -26,6 +26,7 @@ LIBRARY = {"heapq": {"heappush", "heappop", "heapify", "heapreplace", "heappushp
            "math": {"gcd", "lcm", "isqrt", "comb", "perm", "factorial"},
            "itertools": {"product", "combinations", "permutations"},
            "__future__": {"annotations"}}
+BARRED = {"register", "mro", "elements", "open", "input", "law", "version_info", "with_traceback", "add_note", "args"}
 BARRED_NODES = (ast.AsyncFunctionDef, ast.Await, ast.Global, ast.Import, ast.TryStar)
 
 
@@ -120,8 +121,8 @@ class Form(unittest.TestCase):
             bound |= {node.id for node in names if isinstance(node.ctx, ast.Store)}
             bound |= {node.arg for node in ast.walk(tree) if isinstance(node, ast.arg)}
             bound |= {node.name for node in ast.walk(tree) if isinstance(node, ast.FunctionDef)}
-            for alias in [alias for node in ast.walk(tree) if isinstance(node, ast.ImportFrom) for alias in node.names]:
-                bound.add(alias.name)
+            bound |= {node.name for node in ast.walk(tree) if isinstance(node, ast.ExceptHandler)}
+            bound |= imported_names(tree)
             self.assertFalse((bound - {"__init__"}) & set(dir(builtins)))
             for node in ast.walk(tree):
                 if isinstance(node, ast.Name) and isinstance(node.ctx, ast.Load):
@@ -129,12 +130,56 @@ class Form(unittest.TestCase):
                 if isinstance(node, ast.Call) and isinstance(node.func, ast.Attribute):
                     self.assertIn(node.func.attr, METHODS | methods)
 
+    def test_names_have_one_meaning(self):
+        for path, _, tree in self.each():
+            fixed = imported_names(tree) | {node.name for node in tree.body if isinstance(node, ast.ClassDef)}
+            for function in [node for node in ast.walk(tree) if isinstance(node, ast.FunctionDef)]:
+                inner = list(ast.walk(function))
+                local = {node.id for node in inner if isinstance(node, ast.Name) and isinstance(node.ctx, ast.Store)}
+                local |= {node.arg for node in inner if isinstance(node, ast.arg)}
+                self.assertFalse(local & fixed, path)
+            bound = [name for node in tree.body if isinstance(node, ast.ImportFrom) for name in names_of(node)]
+            self.assertEqual(len(bound + sorted(own_names(tree))), len(set(bound) | own_names(tree)), path)
+
+    def test_attributes_and_methods(self):
+        methods, attributes = set(), set()
+        for _, _, tree in self.each():
+            for node in ast.walk(tree):
+                if isinstance(node, ast.ClassDef):
+                    methods |= {part.name for part in node.body if isinstance(part, ast.FunctionDef)}
+                if isinstance(node, ast.Attribute) and isinstance(node.ctx, ast.Store):
+                    attributes.add(node.attr)
+        self.assertFalse(methods & attributes)
+        self.assertFalse((methods - {"__init__"}) & METHODS)
+        self.assertFalse(attributes & METHODS)
+        self.assertFalse((methods | attributes) & BARRED)
+
+    def test_imports_are_used(self):
+        for path, text, tree in self.each():
+            used = {node.id for node in ast.walk(tree) if isinstance(node, ast.Name)}
+            self.assertLessEqual(imported_names(tree), used, path)
+
+    def test_generators_and_literal_sets(self):
+        for _, _, tree in self.each():
+            for node in ast.walk(tree):
+                self.assertNotIsInstance(node, (ast.GeneratorExp, ast.Yield, ast.YieldFrom, ast.Set, ast.SetComp))
+                if isinstance(node, ast.Call) and isinstance(node.func, ast.Name) and node.func.id == "set":
+                    self.assertLessEqual(len(node.args), 1)
+
     def test_docstrings(self):
         for _, _, tree in self.each():
             self.assertTrue(ast.get_docstring(tree))
             for node in ast.walk(tree):
                 if isinstance(node, (ast.FunctionDef, ast.ClassDef)) and node.name != "__init__":
                     self.assertTrue(ast.get_docstring(node), node.name)
+
+
+def names_of(node):
+    return [alias.name for alias in node.names]
+
+
+def imported_names(tree):
+    return {name for node in tree.body if isinstance(node, ast.ImportFrom) for name in names_of(node)}
 
 
 def own_names(tree):
