@@ -32,7 +32,8 @@ class Comparison:
     """A comparison of two plain stylesheets.
 
     `reached` has for each (state, state, label) that had to be compared the one
-    above it, and the tested names that are among the children there.
+    above it, and the tested names that are among the children there. Of those
+    that the same templates process one stands for all: `seen_rules`.
     """
 
     def __init__(self, one, other):
@@ -46,6 +47,7 @@ class Comparison:
         self.reached = {}
         self.waiting = []
         self.seen_pairs = {}
+        self.seen_rules = {}
         self.numbers = {}
 
     def parting_text(self):
@@ -87,9 +89,15 @@ class Comparison:
 
     def put_waiting(self, key, above, names):
         """Have something compared, unless it was, or nothing is done on both sides."""
-        if key not in self.reached and key[:2] != (NOTHING, NOTHING):
+        rules = (self.rule_in_state(0, key[0], key[2]), self.rule_in_state(1, key[1], key[2]))
+        if rules not in self.seen_rules and key[:2] != (NOTHING, NOTHING):
+            self.seen_rules[rules] = True
             self.reached[key] = (above, names)
             self.waiting.append(key)
+
+    def rule_in_state(self, index, state, label):
+        """The rule by which one of the stylesheets processes an element in a state."""
+        return NOTHING if state == NOTHING else self.programs[index].rule_for(state[0], label)
 
     def allowed_labels(self, names):
         """The labels of children, if of the tested names these are among them."""

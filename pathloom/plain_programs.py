@@ -42,9 +42,13 @@ class Program:
         """All modes, None among them, in which each element has a template."""
         return [mode for mode, match in self.bodies if match == "*"]
 
+    def rule_for(self, mode, label):
+        """The mode and the match of the template that processes elements with a label in a mode."""
+        return (mode, label) if (mode, label) in self.bodies else (mode, "*")
+
     def left_for(self, mode, label, names):
         """What is left for an element with a label in a mode, if of the tested names these are among its children."""
-        key = (mode, label) if (mode, label) in self.bodies else (mode, "*")
+        key = self.rule_for(mode, label)
         if (key, names) not in self.known:
             self.known[(key, names)] = left_in(self.bodies[key], names)
         return self.known[(key, names)]

@@ -5,6 +5,8 @@ from pathloom.plain_bodies import subsets_of
 from pathloom.plain_programs import Program, fresh_name, is_applied_to
 
 MOST_SETS = 20000
+# As far as more sets than that are looked at before the search is given up.
+MOST_LOOKED_AT = 60000
 
 
 class SourceSearch:
@@ -90,7 +92,7 @@ class SourceSearch:
     def note_set(self, parts):
         """Count a set of parts that have to come of the same children."""
         self.sets[parts] = True
-        if len(self.sets) > MOST_SETS:
+        if len(self.sets) > MOST_LOOKED_AT:
             raise TooLarge(MOST_SETS)
 
     def text_of_solution(self, label, task):
@@ -120,7 +122,6 @@ class RowSearch:
     """
 
     def __init__(self, search, task):
-        search.note_set(task[1])
         self.search = search
         self.task = task
         self.nodes = [search.tree.nodes[order] for _, order, _ in task[1]]
@@ -147,6 +148,7 @@ class RowSearch:
     def reach(self, state, way):
         """Come to a state; either it is the goal, or all moves from it wait."""
         self.reached[state] = way
+        self.search.note_set(tuple([(*part[:2], index) for part, index in zip(self.task[1], state[0])]))
         if state == self.goal:
             self.answer = self.children_to(state)
         else:

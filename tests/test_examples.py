@@ -3,8 +3,12 @@
 import unittest
 
 from pathloom.documents import read
-from pathloom.errors import NotDocument
+from pathloom.errors import NotDocument, NotPath, NotPattern
+from pathloom.matching import alternatives_of, fitting, key_nodes
+from pathloom.paths import canonical, tokens, tree_of
 from pathloom.places import places, string_at
+from pathloom.plain import parting, source_for, unplain_at
+from pathloom.sheets import Sheet
 
 
 class Examples(unittest.TestCase):
@@ -22,6 +26,42 @@ class Examples(unittest.TestCase):
         tree = read("<a p='1&#10;2'>&#60;<![CDATA[>]]></a>")
         self.assertEqual(places(tree), [(), (0,), (0, "@p"), (0, 0)])
         self.assertEqual([string_at(tree, (0, "@p")), string_at(tree, (0, 0))], ["1\n2", "<>"])
+
+    def test_paths(self):
+        self.assertEqual(canonical("//a[1]/@b - 2"), "/descendant-or-self::node()/child::a[1]/attribute::b - 2")
+        self.assertEqual(tree_of("-$x * .5"), ("*", ("neg", ("var", "x")), ("number", "0.5")))
+        self.assertEqual(tokens("a-b[. = 'c']"), [("name", "a-b", 0), ("sign", "[", 3), ("sign", ".", 4), ("sign", "=", 6),
+                                                  ("text", "'c'", 8), ("sign", "]", 11)])
+        with self.assertRaises(NotPath) as caught:
+            tree_of("a andb")
+        self.assertEqual(caught.exception.at, 5)
+
+    def test_patterns(self):
+        self.assertEqual(alternatives_of("a|@b|//c|*|processing-instruction('x')|a[1]"), [
+            ("child::a", "0"), ("attribute::b", "0"), ("//child::c", "0.5"), ("child::*", "-0.5"),
+            ("child::processing-instruction('x')", "0"), ("child::a[1]", "0.5")])
+        tree = read('<r><a k="1"/><b k="2"/><a k="1"/></r>')
+        found = [key_nodes(tree, [("of", "*", "@k")], "of", "1"), fitting("a[2]", tree),
+                 fitting("key('of', '2')/@*", tree, [("of", "*", "@k")])]
+        self.assertEqual(found, [[(0, 0), (0, 2)], [(0, 2)], [(0, 1, "@k")]])
+        with self.assertRaises(NotPattern) as caught:
+            fitting("key('of', '1')[2]", tree)
+        self.assertEqual(caught.exception.at, 14)
+
+    def test_sheets(self):
+        main = ('<xsl:stylesheet version="1.0"><xsl:template match="a | b/c" mode="m"/><xsl:template name="t"/>'
+                "</xsl:stylesheet>")
+        self.assertEqual(Sheet(main).template_names(), ["t"])
+
+    def test_plain_stylesheets(self):
+        front = '<xsl:stylesheet version="1.0"><xsl:template match="*"><x>'
+        back = '<xsl:apply-templates select="*"/></x></xsl:template></xsl:stylesheet>'
+        one, other = front + back, front + '<xsl:if test="a"><y/></xsl:if>' + back
+        found = [unplain_at(other), source_for(one, "<x><y/></x>"), parting(one, one), parting(one, other) is None]
+        self.assertEqual(found, [None, None, None, False])
+        self.assertEqual(source_for(one, "<x><x/></x>"), "<e0><e0/></e0>")
+        self.assertIn("<a/>", parting(one, other))
+        self.assertIsNone(source_for(one, "<x><y/></x>"))
 
 
 if __name__ == "__main__":
