@@ -63,7 +63,7 @@ def nodes_behind(node):
 def nodes_ahead(node):
     """All nodes ahead of a node that are not above it, without attributes, the next one first."""
     ahead = node.tree.nodes[:node.order]
-    return without_attributes([other for other in ahead[::-1] if other.end < node.order])
+    return [other for other in ahead[::-1] if other.end < node.order and other.kind != "attribute"]
 
 
 def siblings_behind(node):
@@ -86,7 +86,6 @@ NODES_ON = {
     "following-sibling": siblings_behind, "namespace": no_nodes, "parent": parent_node, "preceding": nodes_ahead,
     "preceding-sibling": siblings_ahead, "self": own_node,
 }
-BACKWARD = ("parent", "ancestor", "ancestor-or-self", "preceding", "preceding-sibling")
 
 
 def nodes_on(axis, node):

@@ -23,6 +23,13 @@ def whole(count):
     return count * UNIT
 
 
+def index_of_position(number):
+    """The index that a number means as a position, below zero if it means none."""
+    if not is_decimal(number) or number // UNIT * UNIT != number:
+        return -1
+    return number // UNIT - 1
+
+
 def rounded_quotient(number, divisor):
     """The whole number next to a quotient of whole numbers; of two that are as near the one farther from zero."""
     size = (2 * abs(number) + abs(divisor)) // (2 * abs(divisor))

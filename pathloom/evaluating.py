@@ -1,9 +1,9 @@
 """The values of the trees of paths."""
 
 from pathloom.axes import enough_starts, nodes_on, passing
-from pathloom.decimals import OPERATION_OF, is_same, negated, number_of_text, operated, whole
+from pathloom.decimals import OPERATION_OF, index_of_position, is_same, negated, number_of_text, operated, whole
 from pathloom.functions import call
-from pathloom.path_words import is_operation
+from pathloom.path_words import ANYTHING_BELOW, is_operation
 from pathloom.trees import in_order
 from pathloom.values import is_true_of, nodes_of, to_number, to_truth
 
@@ -67,9 +67,21 @@ def start_nodes(start, context):
 
 def take_steps(nodes, steps, context):
     """The nodes that steps lead to, one behind the other."""
-    for axis, test, predicates in steps:
+    for axis, test, predicates in joined_steps(steps):
         nodes = take_step(nodes, axis, test, predicates, context)
     return nodes
+
+
+def joined_steps(steps):
+    """Steps that lead to the same nodes; of those that `//` ahead of a child is made of there is one."""
+    found = []
+    for step in steps:
+        # With predicates they differ: positions are counted among the children.
+        if found[-1:] == [ANYTHING_BELOW] and step[0] == "child" and step[2] == ():
+            found[-1] = ("descendant", step[1], ())
+        else:
+            found.append(step)
+    return found
 
 
 def take_step(nodes, axis, test, predicates, context):
@@ -87,8 +99,19 @@ def pass_predicates(nodes, predicates, context):
     """Those of some nodes that pass predicates, one behind the other."""
     for predicate in predicates:
         size = len(nodes)
-        nodes = [node for at, node in enumerate(nodes) if is_passed(predicate, context.moved(node, at + 1, size))]
+        if predicate[0] == "number":
+            nodes = nodes_at(nodes, number_of_text(predicate[1]))
+        elif predicate == ("call", "last", ()):
+            nodes = nodes[-1:]
+        else:
+            nodes = [node for at, node in enumerate(nodes) if is_passed(predicate, context.moved(node, at + 1, size))]
     return nodes
+
+
+def nodes_at(nodes, position):
+    """The node at a position, in a list; no nodes if there is none."""
+    at = index_of_position(position)
+    return nodes[at:at + 1] if at >= 0 else []
 
 
 def is_passed(predicate, context):

@@ -33,8 +33,8 @@ def read_key_row(row):
 def tree_without_variables(path):
     """The tree of a path; NotPath at the first variable in it."""
     tree = tree_of(path)
-    for sort, text, place in tokens(path):
-        if sort == "sign" and text == "$":
+    for _, text, place in tokens(path):
+        if text == "$":
             raise NotPath(place)
     return tree
 

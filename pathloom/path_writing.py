@@ -38,8 +38,6 @@ def needs_brackets(operand, word, is_right):
     """Whether an operand of an operator stands in brackets for the operator that is in it."""
     if not is_operation(operand):
         return False
-    if word == "neg":
-        return operand[0] not in ("neg", "union")
     return RANKS[operand[0]] < RANKS[word] or is_right and RANKS[operand[0]] == RANKS[word]
 
 

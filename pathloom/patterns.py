@@ -94,9 +94,14 @@ def alternative_text(tree):
     return start + steps_text(tree[2], tree[1] is not None, True, False)
 
 
+def is_relative(tree):
+    """Whether an alternative is steps alone; a call has its word where others have their start."""
+    return tree[1] is None
+
+
 def priority_of(tree):
     """The default priority of an alternative, as a text."""
-    if tree[0] == "call" or tree[1] is not None or len(tree[2]) > 1 or tree[2][0][2] != ():
+    if not is_relative(tree) or len(tree[2]) > 1 or tree[2][0][2] != ():
         return "0.5"
     test = tree[2][0][1]
     is_named = test[0] == "name" or test[0] == "kind" and test[2] is not None
@@ -115,7 +120,7 @@ def nodes_that_fit(trees, tree, world):
 def nodes_of_alternative(alternative, tree, world):
     """The nodes of a tree that fit an alternative."""
     context = start_context(tree.root, world)
-    if alternative[0] == "path" and alternative[1] is None:
+    if is_relative(alternative):
         # To begin at every node at once is to ask each node and all nodes above it.
         return take_steps(tree.nodes, alternative[2], context)
     return value_of(alternative, context)[1]

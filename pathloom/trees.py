@@ -53,8 +53,9 @@ class Tree:
             node.end = order
             node.tree = self
         for node in self.nodes[::-1]:
-            if node.parent is not None:
-                node.parent.end = max(node.parent.end, node.end)
+            above = node.parent
+            if above is not None:
+                above.end = max(above.end, node.end)
 
 
 def nodes_in(top):
@@ -82,6 +83,9 @@ def in_order(nodes):
     """Nodes in document order, each once."""
     if len(nodes) < 2:
         return list(nodes)
+    tree = nodes[0].tree
+    if [node for node in nodes if node.tree != tree] == []:
+        return [tree.nodes[order] for order in sorted(set([node.order for node in nodes]))]
     found = {node: True for node in nodes}
     return sorted(list(found), key=place_in_order)
 

@@ -2,6 +2,7 @@
 
 import unittest
 
+from pathloom.attribute_values import read_value, template_parts
 from pathloom.errors import BadValue
 from pathloom.sheets import Sheet
 from tests.shown import STRANGE
@@ -162,6 +163,25 @@ class Attributes(unittest.TestCase):
             self.assertEqual(top_fault(template("<xsl:nothing/>" if error else "", text)), error and ((0, 0), error))
 
 
+class Templates(unittest.TestCase):
+    """What is kept of attribute value templates, for those that carry them out."""
+
+    def test_parts(self):
+        path = ("path", ("path", None, (("child", ("name", "a"), ()),)))
+        told = {"": [], "x y": [("text", "x y")], "{a}": [path], "x{a}y{ a}": [("text", "x"), path, ("text", "y"), path],
+                "{{x}}": [("text", "{x}")], "{{{a}}}": [("text", "{"), path, ("text", "}")], "{a}{a}": [path, path],
+                "}}{a}{{": [("text", "}"), path, ("text", "{")], "{'}{'}": [("path", ("text", "}{"))], "{{a}}": [("text", "{a}")],
+                '{concat("}", \'"\')}': [("path", ("call", "concat", (("text", "}"), ("text", '"'))))], "'{a}'": [("text", "'"), path, ("text", "'")]}
+        for text, parts in told.items():
+            self.assertEqual(template_parts(text), parts, text)
+
+    def test_values_of_other_sorts(self):
+        self.assertEqual(read_value("names", " a\tb:c\n"), ["a", "b:c"])
+        self.assertEqual(read_value("names or all", "* a *"), ["*", "a", "*"])
+        self.assertEqual([read_value(sort, text) for sort, text in (("name", "a"), ("decimal", "1"), ("any", "{"), ("yes or no", "no"))],
+                         ["a", "1", "{", "no"])
+
+
 class Contents(unittest.TestCase):
     def test_what_stands_where(self):
         """Each element in each other one."""
@@ -274,6 +294,29 @@ class Contents(unittest.TestCase):
         self.assertIsNone(body_fault(choose))
         self.assertEqual(body_fault("<b>" + choose + "</b>"), ((0,) * 60, "element"))
         self.assertIsNone(top_fault("<x:y>" * 75 + "</x:y>" * 75))
+
+    def test_levels_in_what_has_no_body_and_ahead_of_bodies(self):
+        # Each frame with the place of its inner part, and how many levels it has.
+        frames = [
+            ("<xsl:choose><xsl:when test='1'>{}</xsl:when></xsl:choose>", (0, 0, 0), 2),
+            ("<xsl:choose><xsl:when test='1'/><xsl:otherwise>{}</xsl:otherwise></xsl:choose>", (0, 1, 0), 2),
+            ("<xsl:call-template name='t'><xsl:with-param name='p'>{}</xsl:with-param></xsl:call-template>", (0, 0, 0), 2),
+            ("<xsl:param name='p'>{}</xsl:param>", (0, 0), 1),
+        ]
+        for frame, place, levels in frames:
+            for more in (0, 1):
+                deep = 59 - levels - 1 + more
+                found = body_fault(frame.format("<b>" * deep + "<c/>" + "</b>" * deep))
+                self.assertEqual(found, ((*place, *(0,) * deep), "element") if more else None, frame)
+        for more in (0, 1):
+            deep = 57 + more
+            found = body_fault("<b>" * deep + "<xsl:for-each select='a'><xsl:sort/></xsl:for-each>" + "</b>" * deep)
+            self.assertEqual(found, ((0,) * (deep + 2), "element") if more else None)
+            found = body_fault("<b>" * deep + "<xsl:apply-templates><xsl:sort/></xsl:apply-templates>" + "</b>" * deep)
+            self.assertEqual(found, ((0,) * (deep + 2), "element") if more else None)
+        found = top_fault("<xsl:attribute-set name='s'><xsl:attribute name='b'>" + "<b>" * 58 + "<c/>" + "</b>" * 58 +
+                          "</xsl:attribute></xsl:attribute-set>")
+        self.assertEqual(found, ((0, 0, 0) + (0,) * 59, "element"))
 
 
 class Roots(unittest.TestCase):
