@@ -1,7 +1,6 @@
 """Plain stylesheets on every document."""
 
 from pathloom.documents import read
-from pathloom.errors import BadValue
 from pathloom.plain_pairs import Comparison
 from pathloom.plain_sources import SourceSearch
 from pathloom.plainness import looked_at, plain_top
@@ -21,10 +20,4 @@ def parting(one, other):
 def source_for(main, result):
     """The text of a document of which a plain stylesheet makes a result, None if there is none."""
     top = plain_top(main)
-    if not isinstance(result, str):
-        raise BadValue("a result is a text")
-    tree = read(result)
-    for node in tree.nodes:
-        if node.kind in ("comment", "instruction"):
-            return None
-    return SourceSearch(top, tree).source_text()
+    return SourceSearch(top, read(result)).source_text()

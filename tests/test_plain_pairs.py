@@ -131,6 +131,16 @@ class Parting(unittest.TestCase):
                 parting(*pair)
             self.assertEqual(caught.exception.most, 4)
 
+    def test_too_many_pairs(self):
+        def ring(size):
+            modes = [("*", f"m{at}", f"<x>{apply('*', f'm{(at + 1) % size}')}</x>") for at in range(size)]
+            return sheet(("*", f"<x>{apply('*', 'm0')}</x>"), *modes)
+        self.assertIsNone(parting(ring(67), ring(71)))
+        self.assertIsNone(parting(ring(60), ring(80)))
+        with self.assertRaises(TooLarge) as caught:
+            parting(ring(71), ring(73))
+        self.assertEqual(caught.exception.most, 5000)
+
     def test_facts(self):
         choices = shuffled(23)
         for _ in range(150):
@@ -243,6 +253,16 @@ class Sources(unittest.TestCase):
         two = sheet(("*", f"<x><l>{apply()}</l><r>{apply('*', 'm')}</r></x>"), ("*", "m", "<y/>"), ("a", "<a/>"), ("a", "m", ""))
         self.check(two, "<x><l>" + "<a/>" * 30 + "</l><r/></x>")
         self.check(two, "<x><l>" + "<a/>" * 30 + "</l><r><y/></r></x>", False)
+
+    def test_too_many_sets(self):
+        rows = [("*", f"<x><l>{apply()}</l><r>{apply('*', 'm')}</r></x>"), ("*", "m", "<y/>"), ("a", "<a/>"), ("a", "m", ""),
+                ("b", ""), ("b", "m", "<b/>")]
+        many = "<x><l>" + "<a/>" * 400 + "</l><r>" + "<b/>" * 400 + "{}</r></x>"
+        self.check(sheet(*rows), many.format(""))
+        with self.assertRaises(TooLarge) as caught:
+            source_for(sheet(*rows), many.format("<z/>"))
+        self.assertEqual(caught.exception.most, 20000)
+        self.check(sheet(*rows), "<x><l>" + "<a/>" * 60 + "</l><r>" + "<b/>" * 60 + "<z/></r></x>", False)
 
 
 class Errors(unittest.TestCase):

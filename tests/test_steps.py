@@ -8,14 +8,14 @@ from pathloom.documents import read
 from pathloom.evaluating import value_of
 from pathloom.paths import tree_of
 from pathloom.places import node_at
-from pathloom.trees import place_of
+from pathloom.trees import in_order, place_of
 from tests.plain_axes import Told
 from tests.second_paths import AXES
 
 DOCUMENT = ("<!--1--><?p 2?><r a='1' b='2'>x<s a='3'><t/>y<!--c--><?p q?><?q?><t b='4'><s/></t></s><s/>z"
             "<t><u c='5' a='6'><s>w</s></u></t><p:u/></r><?q?>")
 TESTS = ["a", "s", "t", "r", "*", "node()", "text()", "comment()", "processing-instruction()",
-         "processing-instruction('p')", "p:u"]
+         "processing-instruction('p')", "processing-instruction('t')", "p:u"]
 # Predicates and what they mean, of a place, a position and a size.
 PREDICATES = {
     "1": lambda told, node, at, size: at == 1,
@@ -107,6 +107,17 @@ class Steps(unittest.TestCase):
         node = self.tree.root
         self.assertEqual(value("//t | //s | //t", node), sorted(set(value("//t", node) + value("//s", node))))
         self.assertEqual(value("//u/ancestor::* | //s", node)[0], (2,))
+
+    def test_nodes_of_several_trees(self):
+        trees = [read("<r><a/><a/></r>") for _ in range(3)]
+        for number, tree in zip((2, 0, 1), trees):
+            tree.number = number
+        nodes = [node for tree in trees for node in tree.nodes]
+        told = trees[1].nodes + trees[2].nodes + trees[0].nodes
+        self.assertEqual(in_order(nodes + nodes[::-1]), told)
+        self.assertEqual(in_order([nodes[5], nodes[1], nodes[5]]), [nodes[5], nodes[1]])
+        mark = value_of(tree_of("generate-id()"), start_context(trees[0].nodes[3], World()))
+        self.assertEqual(mark, ("text", "n2d3"))
 
     def test_large_documents(self):
         tree = read("<r>" + "<a b='1'>x</a>" * 1600 + "</r>")

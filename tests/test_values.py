@@ -70,7 +70,8 @@ class Comparisons(unittest.TestCase):
         told = {"a = 1": True, "1 = a": True, "a != 1": True, "a = '2x'": True, "a = '2'": False, "a > 0": True,
                 "0 < a": True, "a > 1": False, "a < 2": True, "nothing = ''": False, "nothing != ''": False,
                 "nothing = false()": True, "nothing != true()": True, "a = true()": True, "a < true()": False,
-                "nothing < true()": True, "true() > nothing": True, "a >= true()": True, "c:d = 3": True,
+                "nothing < true()": True, "1 <= a": True, "2 <= a": False, "1 >= a": True, "0 >= a": False, "1 < a": False, "2 > a": True,
+                "1 != a": True, "'1' != c": False, "'1' = a": True, "true() = nothing": False, "true() > nothing": True, "a >= true()": True, "c:d = 3": True,
                 "c:d = '3'": False, "e = ''": True, "e != ''": False, "a = 'z'": False}
         for text, found in told.items():
             self.assertIs(value(text), found, text)
@@ -103,6 +104,20 @@ class Functions(unittest.TestCase):
                 "sum(a[1] | c:d)": "4", "sum(a)": "NaN", "sum(nothing)": "0"}
         for text, found in told.items():
             self.assertEqual(value(text), found, text)
+
+    def test_sorts_of_values(self):
+        told = {"nodes": ["id('x')", "current()", "document(nothing)", "a"],
+                "text": ["string()", "concat('', '')", "name()", "local-name()", "generate-id()", "substring-before('', '')",
+                         "substring-after('', '')", "substring('', 1)", "normalize-space()", "translate('', '', '')",
+                         "name(nothing)", "generate-id(nothing)", "'x'"],
+                "number": ["last()", "position()", "count(a)", "string-length()", "number()", "sum(a)", "floor(1)",
+                           "ceiling(1)", "round(1)", "1 + 1", "-1", "1"],
+                "truth": ["true()", "false()", "not(1)", "boolean(1)", "contains('', '')", "starts-with('', '')", "1 = 1",
+                          "1 or 1", "1 and 1", "1 < 1"]}
+        context = start_context(TREE.root.children[0], World())
+        for sort, texts in told.items():
+            for text in texts:
+                self.assertEqual(value_of(tree_of(text), context)[0], sort, text)
 
     def test_id(self):
         told = {"id('x')": [(0, 0)], "id(' y\tx\n')": [(0, 0), (0, 1)], "id('x y')": [(0, 0), (0, 1)], "id('')": [],
