@@ -56,11 +56,15 @@ def is_white(text):
     return text.strip(WHITE_SPACE) == ""
 
 
+def outermost_node(tree):
+    """The root element of a module."""
+    return [node for node in tree.root.children if node.kind == "element"][0]
+
+
 def outermost_piece(tree, module_name):
     """The piece of the root element of a module, with all that is in it."""
-    outermost = [node for node in tree.root.children if node.kind == "element"][0]
-    top = Piece(outermost, "", module_name)
-    waiting = [(outermost, top, False)]
+    top = Piece(outermost_node(tree), "", module_name)
+    waiting = [(outermost_node(tree), top, False)]
     while waiting:
         node, piece, is_kept = waiting.pop()
         is_kept = keeps_white_space(piece, is_kept)

@@ -3,7 +3,7 @@
 from pathloom.documents import read
 from pathloom.element_reading import read_element, read_literal
 from pathloom.errors import NotDocument, NotSheet
-from pathloom.modules import PREFIX, Piece, outermost_piece
+from pathloom.modules import PREFIX, Piece, outermost_node, outermost_piece
 from pathloom.patterns import pattern_trees
 from pathloom.sheet_words import TOP_WORDS
 
@@ -112,18 +112,13 @@ class SheetReader:
 
 def simplified_template(tree, top, name):
     """The template that a simplified module stands for, of which the root element is the body."""
-    template = Piece(top_node(tree), "", name)
+    template = Piece(outermost_node(tree), "", name)
     template.name = PREFIX + "template"
     template.attributes = []
     template.meant = {"match": pattern_trees("/")}
     template.content = [top]
     read_literal(top, 0)
     return template
-
-
-def top_node(tree):
-    """The root element of a document."""
-    return [node for node in tree.root.children if node.kind == "element"][0]
 
 
 def number_modules(main):
