@@ -88,24 +88,30 @@ NODES_ON = {
 }
 
 
-def nodes_on(axis, node):
-    """The nodes of an axis from a node, in the direction of the axis."""
-    look = NODES_ON[axis]
-    return look(node)
+# Their direction is against document order.
+BACKWARD = ("ancestor", "ancestor-or-self", "parent", "preceding", "preceding-sibling")
 
 
-def passing(axis, test, nodes):
-    """Those of some nodes of an axis that pass a test."""
-    kind = "attribute" if axis == "attribute" else "element"
-    if test[0] == "name":
-        return [node for node in nodes if node.kind == kind and node.name == test[1]]
-    if test[0] == "any":
-        return [node for node in nodes if node.kind == kind]
-    if test[1] == "node":
-        return list(nodes)
-    if test[2] is None:
-        return [node for node in nodes if node.kind == test[1]]
-    return [node for node in nodes if node.kind == test[1] and node.name == test[2]]
+def test_function(axis, test):
+    """The function that gives those of some nodes of an axis that pass a test."""
+    kind, name = told_by(axis, test)
+    if kind is None:
+        return all_of
+    if name is None:
+        return lambda nodes: [node for node in nodes if node.kind == kind]
+    return lambda nodes: [node for node in nodes if node.name == name and node.kind == kind]
+
+
+def told_by(axis, test):
+    """The kind and the name of the nodes of an axis that pass a test, None for any."""
+    if test[0] == "kind":
+        return (None if test[1] == "node" else test[1], test[2])
+    return ("attribute" if axis == "attribute" else "element", test[1] if test[0] == "name" else None)
+
+
+def all_of(nodes):
+    """All of some nodes."""
+    return nodes
 
 
 def enough_starts(axis, nodes):

@@ -33,10 +33,6 @@ class Context:
         self.variables = variables
         self.world = world
 
-    def moved(self, node, position, size):
-        """The context of another node; all else stays."""
-        return Context(node, position, size, self.current, self.variables, self.world)
-
     def value_of_variable(self, name):
         """The value of a variable."""
         if name in self.variables:

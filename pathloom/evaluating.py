@@ -1,122 +1,175 @@
-"""The values of the trees of paths."""
+"""The values of the trees of paths.
 
-from pathloom.axes import enough_starts, nodes_on, passing
-from pathloom.decimals import OPERATION_OF, index_of_position, is_same, negated, number_of_text, operated, whole
-from pathloom.functions import call
-from pathloom.path_words import ANYTHING_BELOW, is_operation
+A tree becomes a function (node, position, size, scene) that gives its value
+with this node as the context node; `scene` is the context of the whole path,
+which has the current node, the variables and the world.
+"""
+
+from pathloom.decimals import OPERATION_OF, negated, number_of_text
+from pathloom.functions import FUNCTION_IN_CONTEXT, FUNCTION_OF, takes_context_node
+from pathloom.path_words import RANKS, is_operation, sort_of_value
+from pathloom.steps import joined_steps, predicate_function, step_function
 from pathloom.trees import in_order
 from pathloom.values import is_true_of, nodes_of, to_number, to_truth
 
 
 def value_of(tree, context):
     """The value of a tree in a context."""
+    function = compiled(tree)
+    return function(context.node, context.position, context.size, context)
+
+
+def compiled(tree):
+    """The function of a tree."""
+    word = tree[0]
+    if word == "path":
+        return path_function(tree[1], tree[2])
+    if word in RANKS:
+        return operator_function(tree)
+    if word == "call":
+        return function_of_call(tree[1], tree[2])
+    if word == "filter":
+        return filter_function(tree[1], tree[2])
+    if word == "var":
+        name = tree[1]
+        return lambda node, position, size, scene: scene.value_of_variable(name)
+    value = ("number", number_of_text(tree[1])) if word == "number" else tree
+    return lambda node, position, size, scene: value
+
+
+def predicates_of(trees):
+    """The functions of predicates."""
+    return [predicate_function(tree, sort_of_value(tree), compiled(tree)) for tree in trees]
+
+
+def filter_function(tree, trees):
+    """The function of a primary with predicates."""
+    function = compiled(tree)
+    passes = predicates_of(trees)
+
+    def pass_all(node, position, size, scene):
+        """The nodes of the primary that pass all predicates."""
+        nodes = nodes_of(function(node, position, size, scene))
+        for passing in passes:
+            nodes = passing(nodes, scene)
+        return ("nodes", nodes)
+
+    return pass_all
+
+
+def steps_function(steps):
+    """The function (nodes, scene) of steps, one behind the other."""
+    takes = [step_function(axis, test, predicates_of(trees)) for axis, test, trees in joined_steps(steps)]
+    if len(takes) == 1:
+        return takes[0]
+
+    def take_all(nodes, scene):
+        """The nodes that all steps lead to."""
+        for take in takes:
+            nodes = take(nodes, scene)
+        return nodes
+
+    return take_all
+
+
+def path_function(start, steps):
+    """The function of a location path."""
+    take = steps_function(steps)
+    if start is None:
+        return lambda node, position, size, scene: ("nodes", take([node], scene))
+    if start == "root":
+        return lambda node, position, size, scene: ("nodes", take([node.tree.root], scene))
+    begin = compiled(start)
+
+    def take_from_start(node, position, size, scene):
+        """The nodes that the steps lead to from those of the start."""
+        return ("nodes", take(nodes_of(begin(node, position, size, scene)), scene))
+
+    return take_from_start
+
+
+def function_of_call(word, trees):
+    """The function of a call."""
+    asks = [compiled(tree) for tree in trees]
+    if takes_context_node(word, len(trees)):
+        asks = [own_node_alone]
+    if word in FUNCTION_IN_CONTEXT:
+        in_context = FUNCTION_IN_CONTEXT[word]
+        return lambda node, position, size, scene: in_context(
+            [ask(node, position, size, scene) for ask in asks], node, position, size, scene
+        )
+    function = FUNCTION_OF[word]
+    if len(asks) == 1:
+        alone = asks[0]
+        return lambda node, position, size, scene: function([alone(node, position, size, scene)])
+    return lambda node, position, size, scene: function([ask(node, position, size, scene) for ask in asks])
+
+
+def own_node_alone(node, position, size, scene):
+    """The context node alone, as a list."""
+    return ("nodes", [node])
+
+
+def operator_function(tree):
+    """The function of an operator with its operands."""
     # Down the first operands without recursion: rows of operators may be long.
     rows = []
     while is_operation(tree):
         rows.append(tree)
         tree = tree[1]
-    value = value_of_operand(tree, context)
-    for row in rows[::-1]:
-        value = value_of_operation(row, value, context)
-    return value
+    first = compiled(tree)
+    goes = [row_function(row) for row in rows[::-1]]
+
+    def operate(node, position, size, scene):
+        """The value of all the operators, the one that binds most first."""
+        value = first(node, position, size, scene)
+        for go_on in goes:
+            value = go_on(value, node, position, size, scene)
+        return value
+
+    return operate
 
 
-def value_of_operation(tree, value, context):
-    """The value of an operator, of which the first operand has a value."""
+def row_function(tree):
+    """The function (value, node, position, size, scene) of an operator of which the first operand has a value."""
     word = tree[0]
     if word == "neg":
-        return ("number", negated(to_number(value)))
+        return lambda value, node, position, size, scene: ("number", negated(to_number(value)))
+    second = compiled(tree[2])
     if word in ("or", "and"):
-        decided = to_truth(value)
-        if decided != (word == "or"):
-            decided = to_truth(value_of(tree[2], context))
-        return ("truth", decided)
+        return truth_row(second, word == "or")
     if word == "union":
+        return union_row(second)
+    if word not in OPERATION_OF:
+        return lambda value, node, position, size, scene: (
+            "truth", is_true_of(word, value, second(node, position, size, scene))
+        )
+    operation = OPERATION_OF[word]
+
+    def calculate(value, node, position, size, scene):
+        """The number that the operation makes."""
+        other = second(node, position, size, scene)
+        return ("number", operation(to_number(value), to_number(other)))
+
+    return calculate
+
+
+def truth_row(second, decides):
+    """The function of `or` and `and`, of which a first operand that is true or false decides."""
+    def decide(value, node, position, size, scene):
+        """The truth of both."""
+        if to_truth(value) == decides:
+            return ("truth", decides)
+        return ("truth", to_truth(second(node, position, size, scene)))
+
+    return decide
+
+
+def union_row(second):
+    """The function of `|`."""
+    def join(value, node, position, size, scene):
+        """The nodes of both."""
         nodes = nodes_of(value)
-        return ("nodes", in_order(nodes + nodes_of(value_of(tree[2], context))))
-    other = value_of(tree[2], context)
-    if word in OPERATION_OF:
-        return ("number", operated(word, to_number(value), to_number(other)))
-    return ("truth", is_true_of(word, value, other))
+        return ("nodes", in_order(nodes + nodes_of(second(node, position, size, scene))))
 
-
-def value_of_operand(tree, context):
-    """The value of a tree that is no operator."""
-    if tree[0] == "path":
-        return ("nodes", take_steps(start_nodes(tree[1], context), tree[2], context))
-    if tree[0] == "filter":
-        nodes = nodes_of(value_of(tree[1], context))
-        return ("nodes", pass_predicates(nodes, tree[2], context))
-    if tree[0] == "call":
-        return call(tree[1], context, [value_of(part, context) for part in tree[2]])
-    if tree[0] == "var":
-        return context.value_of_variable(tree[1])
-    if tree[0] == "number":
-        return ("number", number_of_text(tree[1]))
-    return tree
-
-
-def start_nodes(start, context):
-    """The nodes at which a location path begins."""
-    if start is None:
-        return [context.node]
-    if start == "root":
-        return [context.node.tree.root]
-    return nodes_of(value_of(start, context))
-
-
-def take_steps(nodes, steps, context):
-    """The nodes that steps lead to, one behind the other."""
-    for axis, test, predicates in joined_steps(steps):
-        nodes = take_step(nodes, axis, test, predicates, context)
-    return nodes
-
-
-def joined_steps(steps):
-    """Steps that lead to the same nodes; of those that `//` ahead of a child is made of there is one."""
-    found = []
-    for step in steps:
-        # With predicates they differ: positions are counted among the children.
-        if found[-1:] == [ANYTHING_BELOW] and step[0] == "child" and step[2] == ():
-            found[-1] = ("descendant", step[1], ())
-        else:
-            found.append(step)
-    return found
-
-
-def take_step(nodes, axis, test, predicates, context):
-    """The nodes that a step leads to from some nodes in document order."""
-    if predicates == ():
-        nodes = enough_starts(axis, nodes)
-    found = []
-    for node in nodes:
-        reached = passing(axis, test, nodes_on(axis, node))
-        found.extend(pass_predicates(reached, predicates, context))
-    return in_order(found)
-
-
-def pass_predicates(nodes, predicates, context):
-    """Those of some nodes that pass predicates, one behind the other."""
-    for predicate in predicates:
-        size = len(nodes)
-        if predicate[0] == "number":
-            nodes = nodes_at(nodes, number_of_text(predicate[1]))
-        elif predicate == ("call", "last", ()):
-            nodes = nodes[-1:]
-        else:
-            nodes = [node for at, node in enumerate(nodes) if is_passed(predicate, context.moved(node, at + 1, size))]
-    return nodes
-
-
-def nodes_at(nodes, position):
-    """The node at a position, in a list; no nodes if there is none."""
-    at = index_of_position(position)
-    return nodes[at:at + 1] if at >= 0 else []
-
-
-def is_passed(predicate, context):
-    """Whether a context passes a predicate."""
-    value = value_of(predicate, context)
-    if value[0] == "number":
-        return is_same(value[1], whole(context.position))
-    return to_truth(value)
+    return join

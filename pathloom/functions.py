@@ -1,56 +1,75 @@
 """The functions of paths.
 
-Each takes the context and the list of the values of its arguments; those
-that may be left out are there already, as the context node alone.
+Each takes the list of the values of its arguments; those that may be left out
+are there already, as the context node alone. Those that ask for more take the
+context behind it: the node, its position, the size, and the context in which
+the whole path is evaluated.
 """
 
 from pathloom.decimals import ceiling_of, floor_of, number_of_text, plus, round_of, whole
 from pathloom.path_words import FUNCTIONS
 from pathloom.text_functions import exchanged, text_after, text_before, text_from, words_of
 from pathloom.trees import in_order, string_value
-from pathloom.values import nodes_of, to_number, to_text, to_truth
+from pathloom.values import nodes_of, texts_of, to_number, to_text, to_truth
 
 
-def call(word, context, values):
-    """The value of a call."""
-    # A number that is left out is the third one of substring, which means the end of the text.
-    if FUNCTIONS[word] == (0, 1) and values == []:
-        values = [("nodes", [context.node])]
-    function = FUNCTION_OF[word]
-    return function(context, values)
+def takes_context_node(word, many):
+    """Whether a call with a number of arguments means the context node by one that it leaves out."""
+    # What is left out may also be the third argument of substring, which means the end of the text.
+    return FUNCTIONS[word] == (0, 1) and many == 0
 
 
-def current_node(context, values):
+def current_node(values, node, position, size, scene):
     """current()"""
-    return ("nodes", [context.current])
+    return ("nodes", [scene.current])
 
 
-def last_position(context, values):
+def last_position(values, node, position, size, scene):
     """last()"""
-    return ("number", whole(context.size))
+    return ("number", whole(size))
 
 
-def own_position(context, values):
+def own_position(values, node, position, size, scene):
     """position()"""
-    return ("number", whole(context.position))
+    return ("number", whole(position))
 
 
-def true_value(context, values):
+def nodes_with_id(values, node, position, size, scene):
+    """id(value)"""
+    wanted = {word: True for text in texts_of(values[0]) for word in words_of(text)}
+    found = {}
+    for part in node.tree.nodes:
+        if part.kind == "attribute" and part.name == "id" and part.text in wanted and part.text not in found:
+            found[part.text] = part.parent
+    return ("nodes", in_order(list(found.values())))
+
+
+def nodes_by_key(values, node, position, size, scene):
+    """key(name, value)"""
+    return ("nodes", scene.world.key_nodes_for(node.tree, to_text(values[0]), texts_of(values[1])))
+
+
+def document_roots(values, node, position, size, scene):
+    """document(value)"""
+    return ("nodes", in_order([scene.world.document_root(name) for name in texts_of(values[0])]))
+
+
+def true_value(values):
     """true()"""
     return ("truth", True)
 
 
-def false_value(context, values):
+def false_value(values):
     """false()"""
     return ("truth", False)
 
 
-def count_nodes(context, values):
+def count_nodes(values):
     """count(nodes)"""
     return ("number", whole(len(nodes_of(values[0]))))
 
 
-def name_of_first(context, values):
+def name_of_first(values):
     """name(nodes?)"""
     nodes = nodes_of(values[0])
     if nodes == [] or nodes[0].name is None:
@@ -58,12 +77,12 @@ def name_of_first(context, values):
     return ("text", nodes[0].name)
 
 
-def local_name_of_first(context, values):
+def local_name_of_first(values):
     """local-name(nodes?)"""
-    return ("text", name_of_first(context, values)[1].rpartition(":")[2])
+    return ("text", name_of_first(values)[1].rpartition(":")[2])
 
 
-def mark_of_first(context, values):
+def mark_of_first(values):
     """generate-id(nodes?)"""
     nodes = nodes_of(values[0])
     if nodes == []:
@@ -71,100 +90,73 @@ def mark_of_first(context, values):
     return ("text", f"n{nodes[0].tree.number}d{nodes[0].order}")
 
 
-def texts_of(value):
-    """The string values of a list of nodes, or the text of another value alone."""
-    if value[0] == "nodes":
-        return [string_value(node) for node in value[1]]
-    return [to_text(value)]
-
-
-def nodes_with_id(context, values):
-    """id(value)"""
-    wanted = {word: True for text in texts_of(values[0]) for word in words_of(text)}
-    found = {}
-    for node in context.node.tree.nodes:
-        if node.kind == "attribute" and node.name == "id" and node.text in wanted and node.text not in found:
-            found[node.text] = node.parent
-    return ("nodes", in_order(list(found.values())))
-
-
-def nodes_by_key(context, values):
-    """key(name, value)"""
-    return ("nodes", context.world.key_nodes_for(context.node.tree, to_text(values[0]), texts_of(values[1])))
-
-
-def document_roots(context, values):
-    """document(value)"""
-    return ("nodes", in_order([context.world.document_root(name) for name in texts_of(values[0])]))
-
-
-def text_value(context, values):
+def text_value(values):
     """string(value?)"""
     return ("text", to_text(values[0]))
 
 
-def joined_text(context, values):
+def joined_text(values):
     """concat(text, text, ..)"""
     return ("text", "".join([to_text(value) for value in values]))
 
 
-def starts_with(context, values):
+def starts_with(values):
     """starts-with(text, text)"""
     return ("truth", to_text(values[0]).startswith(to_text(values[1])))
 
 
-def contains_text(context, values):
+def contains_text(values):
     """contains(text, text)"""
     return ("truth", to_text(values[1]) in to_text(values[0]))
 
 
-def before_text(context, values):
+def before_text(values):
     """substring-before(text, text)"""
     return ("text", text_before(to_text(values[0]), to_text(values[1])))
 
 
-def after_text(context, values):
+def after_text(values):
     """substring-after(text, text)"""
     return ("text", text_after(to_text(values[0]), to_text(values[1])))
 
 
-def part_of_text(context, values):
+def part_of_text(values):
     """substring(text, number, number?)"""
     length = to_number(values[2]) if len(values) > 2 else None
     return ("text", text_from(to_text(values[0]), to_number(values[1]), length))
 
 
-def length_of_text(context, values):
+def length_of_text(values):
     """string-length(text?)"""
     return ("number", whole(len(to_text(values[0]))))
 
 
-def normal_text(context, values):
+def normal_text(values):
     """normalize-space(text?)"""
     return ("text", " ".join(words_of(to_text(values[0]))))
 
 
-def translated_text(context, values):
+def translated_text(values):
     """translate(text, text, text)"""
     return ("text", exchanged(to_text(values[0]), to_text(values[1]), to_text(values[2])))
 
 
-def truth_value(context, values):
+def truth_value(values):
     """boolean(value)"""
     return ("truth", to_truth(values[0]))
 
 
-def opposite_truth(context, values):
+def opposite_truth(values):
     """not(truth)"""
     return ("truth", not to_truth(values[0]))
 
 
-def number_value(context, values):
+def number_value(values):
     """number(value?)"""
     return ("number", to_number(values[0]))
 
 
-def sum_of_nodes(context, values):
+def sum_of_nodes(values):
     """sum(nodes)"""
     total = 0
     for node in nodes_of(values[0]):
@@ -172,28 +164,30 @@ def sum_of_nodes(context, values):
     return ("number", total)
 
 
-def floor_value(context, values):
+def floor_value(values):
     """floor(number)"""
     return ("number", floor_of(to_number(values[0])))
 
 
-def ceiling_value(context, values):
+def ceiling_value(values):
     """ceiling(number)"""
     return ("number", ceiling_of(to_number(values[0])))
 
 
-def round_value(context, values):
+def round_value(values):
     """round(number)"""
     return ("number", round_of(to_number(values[0])))
 
 
+FUNCTION_IN_CONTEXT = {
+    "current": current_node, "document": document_roots, "id": nodes_with_id, "key": nodes_by_key,
+    "last": last_position, "position": own_position,
+}
 FUNCTION_OF = {
     "boolean": truth_value, "ceiling": ceiling_value, "concat": joined_text, "contains": contains_text,
-    "count": count_nodes, "current": current_node, "document": document_roots, "false": false_value,
-    "floor": floor_value, "generate-id": mark_of_first, "id": nodes_with_id, "key": nodes_by_key,
-    "last": last_position, "local-name": local_name_of_first, "name": name_of_first,
-    "normalize-space": normal_text, "not": opposite_truth, "number": number_value, "position": own_position,
-    "round": round_value, "starts-with": starts_with, "string": text_value, "string-length": length_of_text,
-    "substring": part_of_text, "substring-after": after_text, "substring-before": before_text,
-    "sum": sum_of_nodes, "translate": translated_text, "true": true_value,
+    "count": count_nodes, "false": false_value, "floor": floor_value, "generate-id": mark_of_first,
+    "local-name": local_name_of_first, "name": name_of_first, "normalize-space": normal_text, "not": opposite_truth,
+    "number": number_value, "round": round_value, "starts-with": starts_with, "string": text_value,
+    "string-length": length_of_text, "substring": part_of_text, "substring-after": after_text,
+    "substring-before": before_text, "sum": sum_of_nodes, "translate": translated_text, "true": true_value,
 }

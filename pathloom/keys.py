@@ -2,12 +2,12 @@
 
 from pathloom.contexts import World, start_context
 from pathloom.errors import BadValue, Failed, NotPath
-from pathloom.evaluating import value_of
+from pathloom.evaluating import compiled
 from pathloom.path_tokens import is_name
 from pathloom.patterns import nodes_that_fit, pattern_trees
 from pathloom.paths import tokens, tree_of
-from pathloom.trees import in_order, string_value
-from pathloom.values import to_text
+from pathloom.trees import in_order
+from pathloom.values import texts_of
 
 
 def read_key_rows(key_rows):
@@ -74,15 +74,10 @@ class KeyWorld(World):
     def look_up(self, tree, rows):
         """The table that some keys make in a tree."""
         table = {}
-        for _, pattern, path in rows:
+        for _, pattern, tree_of_path in rows:
+            path = compiled(tree_of_path)
             for node in nodes_that_fit(pattern, tree, self):
-                for word in self.words_of_node(node, path):
+                value = path(node, 1, 1, start_context(node, self))
+                for word in {text: True for text in texts_of(value)}:
                     table.setdefault(word, []).append(node)
         return table
-
-    def words_of_node(self, node, path):
-        """The words that a node has by the path of a key, each once."""
-        value = value_of(path, start_context(node, self))
-        if value[0] != "nodes":
-            return [to_text(value)]
-        return list({string_value(part): True for part in value[1]})

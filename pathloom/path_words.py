@@ -30,6 +30,19 @@ FUNCTIONS = {
     "substring": (2, 3), "translate": (3, 3), "concat": (2, None),
 }
 
+# What a call gives, if no text.
+SORTS_OF_CALLS = {
+    "current": "nodes", "document": "nodes", "id": "nodes", "key": "nodes",
+    "boolean": "truth", "contains": "truth", "false": "truth", "not": "truth", "starts-with": "truth", "true": "truth",
+    "ceiling": "number", "count": "number", "floor": "number", "last": "number", "number": "number",
+    "position": "number", "round": "number", "string-length": "number", "sum": "number",
+}
+SORTS_OF_OPERATIONS = {
+    "or": "truth", "and": "truth", "=": "truth", "!=": "truth", "<": "truth", "<=": "truth", ">": "truth",
+    ">=": "truth", "+": "number", "-": "number", "*": "number", "div": "number", "mod": "number", "neg": "number",
+    "union": "nodes",
+}
+
 # What `//`, `.` and `..` mean.
 ANYTHING_BELOW = ("descendant-or-self", ("kind", "node", None), ())
 HERE = ("self", ("kind", "node", None), ())
@@ -39,6 +52,18 @@ ABOVE = ("parent", ("kind", "node", None), ())
 def is_operation(tree):
     """Whether a tree is an operator with its operands."""
     return tree[0] in RANKS
+
+
+def sort_of_value(tree):
+    """The sort of the value of a tree; None if it hangs on a variable."""
+    word = tree[0]
+    if word in ("path", "filter"):
+        return "nodes"
+    if word == "call":
+        return SORTS_OF_CALLS.get(tree[1], "text")
+    if word == "var":
+        return None
+    return SORTS_OF_OPERATIONS.get(word, word)
 
 
 def parts_of(tree):

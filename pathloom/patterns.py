@@ -2,7 +2,7 @@
 
 from pathloom.contexts import start_context
 from pathloom.errors import NotPath, NotPattern
-from pathloom.evaluating import take_steps, value_of
+from pathloom.evaluating import steps_function, value_of
 from pathloom.path_reading import PathReader
 from pathloom.path_writing import path_text, steps_text
 
@@ -122,5 +122,6 @@ def nodes_of_alternative(alternative, tree, world):
     context = start_context(tree.root, world)
     if is_relative(alternative):
         # To begin at every node at once is to ask each node and all nodes above it.
-        return take_steps(tree.nodes, alternative[2], context)
+        take = steps_function(alternative[2])
+        return take(tree.nodes, context)
     return value_of(alternative, context)[1]

@@ -13,16 +13,20 @@ class Module:
 
     `imports` and `includes` are the modules that it names, in order; of those
     that are included the precedence is that of the module they stand in.
+    `lowest` is the lowest precedence of a module that is imported from here
+    on, directly or by others; without any it is the module's own.
     """
 
-    def __init__(self, name, top):
+    def __init__(self, name, tree, top):
         self.name = name
+        self.tree = tree
         self.top = top
         self.at = 0
         self.is_behind_imports = False
         self.imports = []
         self.includes = []
         self.precedence = 0
+        self.lowest = 0
 
 
 class SheetReader:
@@ -61,10 +65,10 @@ class SheetReader:
         if top.name in (PREFIX + "stylesheet", PREFIX + "transform"):
             if top.attribute_text("version") != "1.0":
                 raise NotSheet(top.place, "version")
-            return Module(name, top)
+            return Module(name, tree, top)
         if top.name.startswith(PREFIX) or top.attribute_text("xsl:version") != "1.0":
             raise NotSheet(top.place, "version")
-        module = Module(name, top)
+        module = Module(name, tree, top)
         self.parts.append((simplified_template(tree, top, name), module))
         # Nothing of it is a part at the top level.
         module.at = len(top.content)
@@ -132,8 +136,12 @@ def number_modules(main):
             waiting.extend(member.imports)
     # The last imports were taken first, so that this is the post-order turned around.
     for precedence, module in enumerate(order[::-1]):
+        lowest = precedence
+        for member in members_of(module):
+            lowest = min([lowest] + [other.lowest for other in member.imports])
         for member in members_of(module):
             member.precedence = precedence
+            member.lowest = lowest
 
 
 def members_of(module):

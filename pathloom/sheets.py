@@ -11,7 +11,8 @@ class Sheet:
     """A stylesheet, read from its main module and the others that this needs.
 
     `parts` are all parts at the top level, tuples (piece, module) in the
-    order of reading; `main_module` is the main module.
+    order of reading; `main_module` is the main module. `program` is what
+    carries the stylesheet out, made when it is first needed.
     """
 
     def __init__(self, main, others=None):
@@ -20,6 +21,7 @@ class Sheet:
         reader = SheetReader(checked_others(others))
         self.main_module = reader.read_main(main)
         self.parts = reader.parts
+        self.program = None
         check_whole(self.parts)
 
     def rule_rows(self):

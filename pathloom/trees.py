@@ -13,6 +13,8 @@ class Node:
     last node in it, itself among them.
     """
 
+    __slots__ = ("kind", "name", "text", "attributes", "children", "parent", "part", "order", "end", "tree")
+
     def __init__(self, kind, name, text):
         self.kind = kind
         self.name = name
@@ -71,10 +73,29 @@ def nodes_in(top):
     return found
 
 
+def copied_tree(tree, left_out):
+    """A copy of a tree without those texts that are keys of a dict."""
+    copies = {tree.root: Node("root", None, "")}
+    for node in tree.nodes[1:]:
+        if node not in left_out:
+            copy = Node(node.kind, node.name, node.text)
+            if node.kind == "attribute":
+                copies[node.parent].put_attribute(copy)
+            else:
+                copies[node.parent].put_child(copy)
+            copies[node] = copy
+    return Tree(copies[tree.root])
+
+
 def string_value(node):
     """The string value of a node."""
     if node.kind not in ("root", "element"):
         return node.text
+    if len(node.children) < 2:
+        if node.children == []:
+            return ""
+        if node.children[0].kind == "text":
+            return node.children[0].text
     inside = node.tree.nodes[node.order:node.end + 1]
     return "".join([part.text for part in inside if part.kind == "text"])
 
@@ -102,6 +123,22 @@ def place_of(node):
         parts.append(node.part)
         node = node.parent
     return tuple(parts[::-1])
+
+
+def places_of(nodes):
+    """The places of nodes."""
+    # Nodes beside one another have the way from the root to their parent in common.
+    ways = {}
+    found = []
+    for node in nodes:
+        above = node.parent
+        if above is None:
+            found.append(())
+        else:
+            if above not in ways:
+                ways[above] = place_of(above)
+            found.append((*ways[above], node.part))
+    return found
 
 
 def check_tree(tree):

@@ -1,6 +1,8 @@
-"""The values of paths: tuples ("nodes", list), ("text", text), ("number", number) and ("truth", bool).
+"""The values of paths, as tuples (sort, what it is).
 
-The nodes of a list are in document order, each once.
+They are ("nodes", list), ("text", text), ("number", number), ("truth", bool)
+and ("fragment", root of a result). The nodes of a list are in document order,
+each once. A fragment counts as its text, but in comparisons.
 """
 
 from pathloom.decimals import NAN, is_below, is_decimal, is_same, number_of_text, text_of_number, whole
@@ -8,6 +10,8 @@ from pathloom.errors import Failed
 from pathloom.trees import string_value
 
 MIRRORED = {"<": ">", "<=": ">=", ">": "<", ">=": "<=", "=": "=", "!=": "!="}
+# What is compared by the string values of its nodes.
+LISTS = ("nodes", "fragment")
 
 
 def nodes_of(value):
@@ -19,13 +23,16 @@ def nodes_of(value):
 
 def to_text(value):
     """A value as a text."""
-    if value[0] == "nodes":
+    sort = value[0]
+    if sort == "text":
+        return value[1]
+    if sort == "nodes":
         return string_value(value[1][0]) if value[1] != [] else ""
-    if value[0] == "number":
+    if sort == "number":
         return text_of_number(value[1])
-    if value[0] == "truth":
+    if sort == "truth":
         return "true" if value[1] else "false"
-    return value[1]
+    return value[1].string()
 
 
 def to_number(value):
@@ -45,23 +52,30 @@ def to_truth(value):
         return value[1] not in (0, NAN)
     if value[0] == "truth":
         return value[1]
-    return value[1] != ""
+    return value[0] == "fragment" or value[1] != ""
+
+
+def texts_of(value):
+    """The string values of a list of nodes, or the text of another value alone."""
+    if value[0] == "nodes":
+        return [string_value(node) for node in value[1]]
+    return [to_text(value)]
 
 
 def is_true_of(word, one, other):
     """Whether a comparison of two values is true."""
-    if one[0] == "nodes" and other[0] == "nodes":
-        return compare_lists(word, one[1], other[1])
-    if other[0] == "nodes":
+    if other[0] in LISTS:
+        if one[0] in LISTS:
+            return compare_lists(word, texts_of(one), texts_of(other))
         return is_true_of(MIRRORED[word], other, one)
-    if one[0] == "nodes" and other[0] == "truth":
+    if one[0] not in LISTS:
+        return compare_single(word, one, other)
+    if other[0] == "truth":
         return compare_single(word, ("truth", to_truth(one)), other)
-    if one[0] == "nodes":
-        for node in one[1]:
-            if compare_single(word, ("text", string_value(node)), other):
-                return True
-        return False
-    return compare_single(word, one, other)
+    for text in texts_of(one):
+        if compare_single(word, ("text", text), other):
+            return True
+    return False
 
 
 def compare_single(word, one, other):
@@ -85,9 +99,9 @@ def compare_numbers(word, one, other):
 
 
 def compare_lists(word, one, other):
-    """Whether a comparison is true for some node of one list and some node of the other."""
-    left = strings_of(one)
-    right = strings_of(other)
+    """Whether a comparison is true for some text of one list and some text of the other."""
+    left = {text: True for text in one}
+    right = {text: True for text in other}
     if word == "=":
         return [text for text in left if text in right] != []
     if word == "!=":
@@ -95,11 +109,6 @@ def compare_lists(word, one, other):
     if word in (">", ">="):
         return compare_numbers(MIRRORED[word], least_number(right), greatest_number(left))
     return compare_numbers(word, least_number(left), greatest_number(right))
-
-
-def strings_of(nodes):
-    """The string values of nodes, as the keys of a dict."""
-    return {string_value(node): True for node in nodes}
 
 
 def least_number(texts):

@@ -8,7 +8,10 @@ from pathloom.matching import alternatives_of, fitting, key_nodes
 from pathloom.paths import canonical, tokens, tree_of
 from pathloom.places import places, string_at
 from pathloom.plain import parting, source_for, unplain_at
+from pathloom.running import transform
+from pathloom.selecting import select
 from pathloom.sheets import Sheet
+from pathloom.writing import write
 
 
 class Examples(unittest.TestCase):
@@ -26,6 +29,7 @@ class Examples(unittest.TestCase):
         tree = read("<a p='1&#10;2'>&#60;<![CDATA[>]]></a>")
         self.assertEqual(places(tree), [(), (0,), (0, "@p"), (0, 0)])
         self.assertEqual([string_at(tree, (0, "@p")), string_at(tree, (0, 0))], ["1\n2", "<>"])
+        self.assertEqual(write(tree), '<a p="1&#10;2">&lt;&gt;</a>')
 
     def test_paths(self):
         self.assertEqual(canonical("//a[1]/@b - 2"), "/descendant-or-self::node()/child::a[1]/attribute::b - 2")
@@ -47,6 +51,29 @@ class Examples(unittest.TestCase):
         with self.assertRaises(NotPattern) as caught:
             fitting("key('of', '1')[2]", tree)
         self.assertEqual(caught.exception.at, 14)
+
+    def test_select(self):
+        tree = read("<r><a/><b/><a/><b/></r>")
+        found = [select("/r/b[1]/preceding-sibling::*[1]", tree), select("//a[2]", tree), select("count(//*)", tree)]
+        self.assertEqual(found, [("nodes", [(0, 0)]), ("nodes", [(0, 2)]), ("number", "5")])
+        tree = read("<r><a n='1'/><a n='10'/></r>")
+        found = [select("//a[@n > 2]", tree), select("sum(//@n) div 2", tree), select("$x + 1", tree, (), {"x": 4})]
+        self.assertEqual(found, [("nodes", [(0, 1)]), ("number", "5.5"), ("number", "5")])
+        tree = read("<r><a>1</a><a>2</a></r>")
+        found = [select(text, tree) for text in ("0.1 + 0.2 = 0.3", "1 div 3 * 3", "-5 mod 2", "sum(/r/a) div 0")]
+        self.assertEqual(found, [("truth", True), ("number", "0.999999999"), ("number", "-1"), ("number", "Infinity")])
+        found = [select(text, tree) for text in ("/r/a = 1 and /r/a != 1", "substring('12345', 1.5, 2.6)", "translate('bar', 'abc', 'ABC')")]
+        self.assertEqual(found, [("truth", True), ("text", "234"), ("text", "BAr")])
+
+    def test_transform(self):
+        front = "<xsl:stylesheet version='1.0'><xsl:output method='text'/>"
+        main = front + "<xsl:template match='a'>[<xsl:apply-templates/>]</xsl:template></xsl:stylesheet>"
+        self.assertEqual(transform(Sheet(main), read("<r>x<a>y<a/></a></r>")).text, "x[y[]]")
+        main = front + ('<xsl:template match="i">[<xsl:value-of select="position()"/>:<xsl:apply-templates/>]</xsl:template>'
+                        "</xsl:stylesheet>")
+        self.assertEqual(transform(Sheet(main), read("<r><i>a</i><i>b</i></r>")).text, "[1:a][2:b]")
+        result = transform(Sheet('<o xsl:version="1.0" n="{count(r/i)}"/>'), read("<r><i/><i/></r>"))
+        self.assertEqual(result.origins, [((0,), ("", (0,)), ()), ((0, "@n"), ("", (0,)), ())])
 
     def test_sheets(self):
         main = ('<xsl:stylesheet version="1.0"><xsl:template match="a | b/c" mode="m"/><xsl:template name="t"/>'
