@@ -31,13 +31,21 @@ def string_at(tree, place):
 def node_at(tree, place):
     """The node at a place; BadValue for what is no tree, then for what is no place of it."""
     check_tree(tree)
+    node = node_in(tree, place)
+    if node is None:
+        raise BadValue("this is no place of a node")
+    return node
+
+
+def node_in(tree, place):
+    """The node at a place, None for what is no place."""
     if not isinstance(place, tuple):
-        raise BadValue("a place is a tuple")
+        return None
     node = tree.root
     for part in place:
         node = node_under(node, part)
         if node is None:
-            raise BadValue("no node stands at this place")
+            return None
     return node
 
 

@@ -73,8 +73,8 @@ def nodes_in(top):
     return found
 
 
-def copied_tree(tree, left_out):
-    """A copy of a tree without those texts that are keys of a dict."""
+def node_copies(tree, left_out):
+    """Copies of all nodes of a tree, but of those texts that are keys of a dict, by the nodes themselves."""
     copies = {tree.root: Node("root", None, "")}
     for node in tree.nodes[1:]:
         if node not in left_out:
@@ -84,7 +84,12 @@ def copied_tree(tree, left_out):
             else:
                 copies[node.parent].put_child(copy)
             copies[node] = copy
-    return Tree(copies[tree.root])
+    return copies
+
+
+def copied_tree(tree, left_out):
+    """A copy of a tree without those texts that are keys of a dict."""
+    return Tree(node_copies(tree, left_out)[tree.root])
 
 
 def string_value(node):

@@ -1,13 +1,16 @@
-"""The examples of the document, as far as the program has come."""
+"""The examples of the document."""
 
 import unittest
 
 from pathloom.documents import read
+from pathloom.edits import edited, followed, touched_parts
 from pathloom.errors import NotDocument, NotPath, NotPattern
+from pathloom.every import contained
 from pathloom.matching import alternatives_of, fitting, key_nodes
 from pathloom.paths import canonical, tokens, tree_of
 from pathloom.places import places, string_at
 from pathloom.plain import parting, source_for, unplain_at
+from pathloom.readings import read_parts
 from pathloom.running import transform
 from pathloom.selecting import select
 from pathloom.sheets import Sheet
@@ -89,6 +92,17 @@ class Examples(unittest.TestCase):
         self.assertEqual(source_for(one, "<x><x/></x>"), "<e0><e0/></e0>")
         self.assertIn("<a/>", parting(one, other))
         self.assertIsNone(source_for(one, "<x><y/></x>"))
+
+    def test_every_document(self):
+        found = [contained("/a/*//b", "/a//*/b"), contained("/a[.//b]", "/a[b] | /a[*//b]"), contained("//*", "//a")]
+        self.assertEqual(found, [True, True, False])
+
+    def test_edits_and_readings(self):
+        tree, edit = read("<r>a<b/>c</r>"), ("delete", (0, 1))
+        found = [write(edited(tree, edit)), followed(tree, edit, (0, 2)), touched_parts(tree, edit)]
+        self.assertEqual(found, ["<r>ac</r>", None, [((0,), "children"), ((0, 0), "text"), ((0, 1), "parent"), ((0, 2), "parent")]])
+        self.assertEqual(read_parts("/r/a", read("<r><a/><b/></r>")), [
+            ((), "children"), ((0,), "children"), ((0,), "name"), ((0, 0), "name"), ((0, 1), "name")])
 
 
 if __name__ == "__main__":
