@@ -3,9 +3,9 @@
 from pathloom.decimals import is_decimal_text
 from pathloom.errors import NotPath, NotPattern
 from pathloom.keys import tree_without_variables
-from pathloom.path_tokens import is_name
 from pathloom.paths import tree_of
 from pathloom.patterns import pattern_trees
+from pathloom.signs import is_name
 from pathloom.text_functions import words_of
 
 

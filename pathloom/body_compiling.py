@@ -6,7 +6,6 @@ from pathloom.instructions import (
     ApplyImports, ApplyTemplates, Body, CallTemplate, Choose, Declaration, ForEach, PutAttribute, PutComment,
     PutCopies, PutElement, PutInstruction, PutLike, PutText, PutValue, PutVariable, TellMessage,
 )
-from pathloom.modules import PREFIX
 from pathloom.sheet_checks import used_sets
 from pathloom.sorting import Sort
 from pathloom.values import to_text
@@ -30,10 +29,9 @@ class BodyCompiler:
         """The instruction that a part of a body is."""
         if piece.is_text():
             return PutText(piece.place, piece.text)
-        word = piece.name.removeprefix(PREFIX)
-        if word == piece.name:
+        if piece.word is None:
             return self.literal(piece)
-        make = MAKERS[word]
+        make = MAKERS[piece.word]
         return make(piece, self)
 
     def literal(self, piece):

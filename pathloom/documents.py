@@ -35,7 +35,8 @@ class Reader:
     def read_document(self):
         """Read the whole text; return its tree."""
         self.read_declaration()
-        while not self.scan.is_done():
+        scan = self.scan
+        while scan.at < len(scan.text):
             if self.here.kind == "root":
                 self.read_part_around()
             else:
@@ -70,7 +71,7 @@ class Reader:
         """Read one part of the content of the element that is open, or its end."""
         sign = self.scan.peek()
         if sign == "<":
-            self.scan.expect("<")
+            self.scan.at += 1
             self.read_markup()
         elif sign == "&":
             self.pieces.append(self.scan.read_reference())
@@ -80,12 +81,12 @@ class Reader:
     def read_markup(self):
         """Read what goes on behind a `<` in a content."""
         sign = self.scan.peek()
-        if sign == "!":
+        if sign == "/":
+            self.read_end_tag()
+        elif sign == "!":
             self.read_comment_or_cdata()
         elif sign == "?":
             self.read_instruction()
-        elif sign == "/":
-            self.read_end_tag()
         else:
             self.read_tag()
 
@@ -122,37 +123,44 @@ class Reader:
         """Read the rest of the tag that begins an element."""
         scan = self.scan
         node = Node("element", scan.read_name(), "")
-        known = {}
-        while scan.read_blanks() and scan.peek() not in ("/", ">"):
-            self.read_attribute(node, known)
-        closed = scan.read_one_of(("/>", ">")) == "/>"
+        if scan.read_blanks():
+            self.read_attributes(node)
+        closed = scan.peek() != ">" and scan.read_one_of(("/>", ">")) == "/>"
         self.put(node)
         if not closed:
+            scan.expect(">")
             self.here = node
 
-    def read_attribute(self, node, known):
-        """Read an attribute of an element of which those with the known names were read."""
+    def read_attributes(self, node):
+        """Read the attributes of an element, and the blanks behind them."""
         scan = self.scan
-        name = scan.read_name()
-        if name in known:
-            raise NotDocument(scan.at)
-        known[name] = True
-        scan.read_blanks()
-        scan.expect("=")
-        scan.read_blanks()
-        node.put_attribute(Node("attribute", name, scan.read_attribute_text()))
+        known = {}
+        while scan.peek() not in ("/", ">"):
+            name = scan.read_name()
+            if name in known:
+                raise NotDocument(scan.at)
+            known[name] = True
+            if scan.peek() != "=":
+                scan.read_blanks()
+            scan.expect("=")
+            scan.read_blanks()
+            node.put_attribute(Node("attribute", name, scan.read_attribute_text()))
+            if not scan.read_blanks():
+                return
 
     def read_end_tag(self):
         """Read the rest of the end tag of the element that is open."""
         self.scan.expect("/" + self.here.name)
-        self.scan.read_blanks()
+        if self.scan.peek() != ">":
+            self.scan.read_blanks()
         self.scan.expect(">")
         self.put_text()
         self.here = self.here.parent
 
     def put(self, node):
         """Put a node behind all that has been read of the node that is open."""
-        self.put_text()
+        if self.pieces != []:
+            self.put_text()
         self.here.put_child(node)
 
     def put_text(self):

@@ -2,9 +2,8 @@
 
 from pathloom.documents import read
 from pathloom.errors import BadValue, NotDocument
-from pathloom.path_tokens import is_name
 from pathloom.places import node_at
-from pathloom.signs import end_of_signs
+from pathloom.signs import end_of_signs, is_name
 from pathloom.trees import Node, Tree, node_copies
 
 LEAVES = ("text", "comment", "instruction")

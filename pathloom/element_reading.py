@@ -3,6 +3,7 @@
 from pathloom.attribute_values import BadAttribute, read_value
 from pathloom.errors import NotSheet
 from pathloom.modules import PREFIX
+from pathloom.path_words import variables_in
 from pathloom.sheet_words import AHEAD_OF_BODY, ATTRIBUTES, BODIES, CONTENTS, INSTRUCTIONS, MOST_LEVELS
 
 UNSEEN = ("xsl:version", "xmlns:xsl", "xml:space")
@@ -11,17 +12,17 @@ SETS = "xsl:use-attribute-sets"
 
 def read_attributes(piece):
     """Read the attributes of an element of stylesheets."""
-    word = piece.name.removeprefix(PREFIX)
+    word = piece.word
     for name, sort, is_required in ATTRIBUTES[word]:
         text = piece.attribute_text(name)
         if text is not None:
             put_value(piece, name, sort, text)
         elif is_required:
             raise NotSheet(piece.place, "attribute")
-    known = [name for name, _, _ in ATTRIBUTES[word]]
-    for attribute in piece.attributes:
-        if attribute.name not in known and ":" not in attribute.name:
-            raise NotSheet(piece.place, "attribute")
+    if len(piece.meant) < len(piece.attributes):
+        for attribute in piece.attributes:
+            if attribute.name not in piece.meant and ":" not in attribute.name:
+                raise NotSheet(piece.place, "attribute")
     check_together(piece, word)
 
 
@@ -32,10 +33,13 @@ def put_value(piece, name, sort, text):
     except BadAttribute as wrong:
         raise NotSheet(piece.place, wrong.fault) from None
     piece.meant[name] = value
-    if sort == "path":
-        piece.paths.append(value)
-    elif sort == "template":
-        piece.paths.extend([part for kind, part in value if kind == "path"])
+    if "$" in text:
+        if sort == "path":
+            piece.variables.extend(variables_in(value))
+        elif sort == "template":
+            for kind, part in value:
+                if kind == "path":
+                    piece.variables.extend(variables_in(part))
 
 
 def check_together(piece, word):
@@ -78,7 +82,7 @@ def check_level(piece, level):
 
 def read_content(piece, level):
     """Read the content of an element of stylesheets."""
-    word = piece.name.removeprefix(PREFIX)
+    word = piece.word
     if word in BODIES:
         piece.start = start_of_body(piece, AHEAD_OF_BODY.get(word, ""))
         for part in piece.content[:piece.start]:
@@ -110,9 +114,9 @@ def read_body(piece, level):
     for part in piece.body():
         if part.is_text():
             continue
-        if not part.name.startswith(PREFIX):
+        if part.word is None:
             read_literal(part, level + 1)
-        elif part.name.removeprefix(PREFIX) in INSTRUCTIONS:
+        elif part.word in INSTRUCTIONS:
             check_level(part, level + 1)
             read_element(part, level + 1)
         else:
@@ -127,8 +131,8 @@ def read_parts_without_body(piece, word, level):
             continue
         if part.is_text():
             raise NotSheet(part.place, "text")
-        own = part.name.removeprefix(PREFIX)
-        if own == part.name or own not in CONTENTS.get(word, ()):
+        own = part.word
+        if own is None or own not in CONTENTS.get(word, ()):
             raise NotSheet(part.place, "element")
         # An otherwise stands last, behind a when.
         if word == "choose" and (ahead == "otherwise" or ahead == "" and own == "otherwise"):

@@ -6,7 +6,7 @@ may need the value of a global variable that has to be found first.
 
 from pathloom.errors import Failed
 from pathloom.frames import ApartEnd, BindEnd, EachFrame, GivenFrame, begin_element
-from pathloom.path_tokens import is_name
+from pathloom.signs import is_name
 from pathloom.sorting import sorted_nodes
 from pathloom.values import nodes_of, to_text, to_truth
 

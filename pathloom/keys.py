@@ -3,9 +3,9 @@
 from pathloom.contexts import World, start_context
 from pathloom.errors import BadValue, Failed, NotPath
 from pathloom.evaluating import compiled
-from pathloom.path_tokens import is_name
 from pathloom.patterns import nodes_that_fit, pattern_trees
 from pathloom.paths import tokens, tree_of
+from pathloom.signs import is_name
 from pathloom.trees import in_order
 from pathloom.values import texts_of
 

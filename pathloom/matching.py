@@ -2,8 +2,8 @@
 
 from pathloom.errors import BadValue
 from pathloom.keys import KeyWorld, read_key_rows
-from pathloom.path_tokens import is_name
 from pathloom.patterns import alternative_text, nodes_that_fit, pattern_trees, priority_of
+from pathloom.signs import is_name
 from pathloom.trees import check_tree, place_of
 
 

@@ -9,23 +9,27 @@ PREFIX = "xsl:"
 class Piece:
     """An element, or a text that was joined from some, of a module.
 
-    `meant` are the attributes that mean something, as they were read, and
-    `paths` the trees of the expressions in them; `content` is what is left of
-    the children, and `start` the index of the first part of it that belongs
-    to a body. `place` is that of the node in the module, of a joined text that
-    of its first node.
+    `word` is the name of an element of stylesheets without its prefix, None
+    for all others. `meant` are the attributes that mean something, as they
+    were read, and `variables` the names of the variables in them; `content` is
+    what is left of the children, and `start` the index of the first part of it
+    that belongs to a body. `place` is that of the node in the module, of a
+    joined text that of its first node.
     """
 
-    def __init__(self, node, text, module_name):
+    def __init__(self, node, text, place):
         self.name = node.name
+        self.word = None
+        if node.name is not None and node.name.startswith(PREFIX):
+            self.word = node.name.removeprefix(PREFIX)
         self.text = text
         self.attributes = node.attributes
         self.order = node.order
-        self.place = (module_name, place_of(node))
+        self.place = place
         self.content = []
         self.start = 0
         self.meant = {}
-        self.paths = []
+        self.variables = []
 
     def is_text(self):
         """Whether this is a text."""
@@ -37,7 +41,7 @@ class Piece:
 
     def is_word(self, word):
         """Whether this is the element of stylesheets with a name."""
-        return self.name == PREFIX + word
+        return self.word == word
 
     def attribute_text(self, name):
         """The text of an attribute, None if there is none."""
@@ -63,13 +67,14 @@ def outermost_node(tree):
 
 def outermost_piece(tree, module_name):
     """The piece of the root element of a module, with all that is in it."""
-    top = Piece(outermost_node(tree), "", module_name)
-    waiting = [(outermost_node(tree), top, False)]
+    outermost = outermost_node(tree)
+    top = Piece(outermost, "", (module_name, place_of(outermost)))
+    waiting = [(outermost, top, False)]
     while waiting:
         node, piece, is_kept = waiting.pop()
         is_kept = keeps_white_space(piece, is_kept)
         for child, text in parts_of_content(node):
-            part = Piece(child, text, module_name)
+            part = Piece(child, text, (module_name, (*piece.place[1], child.part)))
             if child.kind == "element":
                 waiting.append((child, part, is_kept))
             if child.kind == "element" or is_kept or piece.is_word("text") or not is_white(text):
@@ -88,10 +93,13 @@ def parts_of_content(node):
     parts = []
     is_open = False
     for child in node.children:
-        if child.kind == "text" and is_open:
+        if child.kind == "element":
+            parts.append((child, ""))
+            is_open = False
+        elif child.kind == "text" and is_open:
             first, text = parts.pop()
             parts.append((first, text + child.text))
-        elif child.kind in ("text", "element"):
+        elif child.kind == "text":
             parts.append((child, child.text))
-            is_open = child.kind == "text"
+            is_open = True
     return parts

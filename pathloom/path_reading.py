@@ -3,22 +3,29 @@
 from pathloom.errors import NotPath
 from pathloom.path_tokens import tokens_in
 from pathloom.path_words import (
-    ABOVE, ANYTHING_BELOW, AXES, FUNCTIONS, HERE, KINDS, OPERATOR_SIGNS, OPERATOR_WORDS, RANKS,
+    ABOVE, ANYTHING_BELOW, AXES, FUNCTIONS, HERE, KINDS, OPERATOR_OF_SIGN, OPERATOR_WORDS, RANKS,
 )
+
+# What may stand right behind a name so that it is no test by this name.
+BEHIND_OTHER_NAMES = ("::", "(", "broken")
+# What may stand right behind a name so that it is not alone a path.
+BEHIND_LONGER_PATHS = ("::", "(", "broken", "[", "/", "//")
 
 
 class PathReader:
     """One reading of a text: its tokens, and the index `at` of the next one.
 
-    NotPath is raised at the first sign with which no path goes on; a token
-    with which none goes on may still begin with signs with which one does.
-    In a text that is `closed` there are no variables and no current().
+    `kinds` are the signs of those tokens that are signs, the sorts of the
+    others. NotPath is raised at the first sign with which no path goes on; a
+    token with which none goes on may still begin with signs with which one
+    does. In a text that is `closed` there are no variables and no current().
     """
 
     def __init__(self, text, closed):
         self.text = text
         self.closed = closed
         self.tokens = tokens_in(text)
+        self.kinds = [token[1] if token[0] == "sign" else token[0] for token in self.tokens]
         self.at = 0
 
     def peek(self):
@@ -31,8 +38,7 @@ class PathReader:
 
     def has_sign(self, signs):
         """Whether the next token is one of some signs."""
-        token = self.peek()
-        return token[0] == "sign" and token[1] in signs
+        return self.kinds[self.at] in signs
 
     def take(self):
         """Read and return the next token."""
@@ -43,31 +49,38 @@ class PathReader:
     def read_path(self):
         """Read the whole text as a path; return its tree."""
         tree = self.read_expression()
-        if self.peek()[0] != "end":
+        if self.kinds[self.at] != "end":
             raise NotPath(self.end_behind_operand())
         return tree
 
     def read_expression(self):
         """Read operands and operators as far as they go."""
-        row = OperatorRow()
+        operands = []
+        # The operators that wait until it is known what binds their operands.
+        waiting = []
+        kinds = self.kinds
         while True:
             # A minus binds less than the | ahead of it, so that none can stand there.
-            while self.has_sign(("-",)) and not row.ends_with("union"):
-                self.take()
-                row.put_minus()
-            row.put_operand(self.read_operand())
-            word = self.read_operator()
+            while kinds[self.at] == "-" and waiting[-1:] != ["union"]:
+                self.at += 1
+                waiting.append("neg")
+            operands.append(self.read_operand())
+            word = self.operator_here()
+            rank = RANKS[word] if word is not None else 0
+            while waiting and RANKS[waiting[-1]] >= rank:
+                bind(operands, waiting.pop())
             if word is None:
-                return row.finished()
-            row.put_operator(word)
+                return operands[0]
+            self.at += 1
+            waiting.append(word)
 
-    def read_operator(self):
-        """Read the operator that stands here; None if none does."""
-        token = self.peek()
-        if token[0] == "sign" and token[1] in OPERATOR_SIGNS or token[0] == "name" and token[1] in OPERATOR_WORDS:
-            self.take()
-            return "union" if token[1] == "|" else token[1]
-        return None
+    def operator_here(self):
+        """The operator that stands here; None if none does."""
+        kind = self.kinds[self.at]
+        if kind == "name":
+            word = self.tokens[self.at][1]
+            return word if word in OPERATOR_WORDS else None
+        return OPERATOR_OF_SIGN.get(kind)
 
     def end_behind_operand(self):
         """The place as far as which the next token can go on behind an operand, where it must not stand."""
@@ -80,32 +93,37 @@ class PathReader:
 
     def expect_behind_operand(self, sign):
         """Read a sign that must stand behind an operand."""
-        if not self.has_sign((sign,)):
+        if self.kinds[self.at] != sign:
             raise NotPath(self.end_behind_operand())
-        self.take()
+        self.at += 1
 
     def expect(self, sign):
         """Read a sign that must stand where nothing else can."""
-        if not self.has_sign((sign,)):
+        if self.kinds[self.at] != sign:
             raise NotPath(self.peek()[2])
-        self.take()
+        self.at += 1
 
     def read_operand(self):
         """Read a location path, or a primary with predicates and steps behind it."""
-        token = self.peek()
-        if token[0] in ("text", "number", "open"):
+        kind = self.kinds[self.at]
+        if kind == "name":
+            behind = self.kinds[self.at + 1]
+            if behind not in BEHIND_LONGER_PATHS:
+                self.at += 1
+                return ("path", None, (("child", ("name", self.tokens[self.at - 1][1]), ()),))
+            if behind == "(" and self.is_function(self.tokens[self.at][1]):
+                return self.read_behind(self.read_call())
+        elif kind in ("number", "text", "open"):
             return self.read_behind(self.read_literal())
-        if self.has_sign(("(",)):
-            self.take()
+        elif kind in ("/", "//"):
+            return self.read_rooted()
+        elif kind == "(":
+            self.at += 1
             tree = self.read_expression()
             self.expect_behind_operand(")")
             return self.read_behind(tree)
-        if self.has_sign(("$",)) and not self.closed:
+        elif kind == "$" and not self.closed:
             return self.read_behind(self.read_variable())
-        if self.is_call():
-            return self.read_behind(self.read_call())
-        if self.has_sign(("/", "//")):
-            return self.read_rooted()
         return ("path", None, tuple(self.read_steps([])))
 
     def read_literal(self):
@@ -129,27 +147,24 @@ class PathReader:
         token = self.peek()
         if token[0] != "name" or token[2] != place + 1:
             raise NotPath(place + 1)
-        self.take()
+        self.at += 1
         self.check_colon(token)
         return ("var", token[1])
 
-    def is_call(self):
-        """Whether a call stands here."""
-        token = self.peek()
-        if token[0] != "name" or token[1] not in FUNCTIONS or self.closed and token[1] == "current":
-            return False
-        return self.peek_behind()[:2] == ("sign", "(")
+    def is_function(self, word):
+        """Whether a word is that of a function that may be called here."""
+        return word in FUNCTIONS and not (self.closed and word == "current")
 
     def read_call(self):
         """Read a call with as many arguments as its function has."""
         word = self.take()[1]
-        self.take()
+        self.at += 1
         least, most = FUNCTIONS[word]
-        if most == 0 or least == 0 and self.has_sign((")",)):
+        if most == 0 or least == 0 and self.kinds[self.at] == ")":
             self.expect(")")
             return ("call", word, ())
         trees = [self.read_expression()]
-        while len(trees) < least or self.has_sign((",",)) and (most is None or len(trees) < most):
+        while len(trees) < least or self.kinds[self.at] == "," and (most is None or len(trees) < most):
             self.expect_behind_operand(",")
             trees.append(self.read_expression())
         self.expect_behind_operand(")")
@@ -157,10 +172,9 @@ class PathReader:
 
     def read_behind(self, tree):
         """Read the predicates and the steps behind a primary."""
-        predicates = self.read_predicates()
-        if predicates != ():
-            tree = ("filter", tree, predicates)
-        if not self.has_sign(("/", "//")):
+        if self.kinds[self.at] == "[":
+            tree = ("filter", tree, self.read_predicates())
+        if self.kinds[self.at] not in ("/", "//"):
             return tree
         steps = self.read_slash()
         return ("path", tree, tuple(self.read_steps(steps)))
@@ -178,42 +192,55 @@ class PathReader:
 
     def begins_step(self):
         """Whether the next token, or its first sign, begins a step."""
-        token = self.peek()
-        if token[0] == "number":
-            return token[1][0] == "."
-        return token[0] == "name" or self.has_sign((".", "..", "@", "*"))
+        kind = self.kinds[self.at]
+        if kind == "number":
+            return self.tokens[self.at][1][0] == "."
+        return kind in ("name", ".", "..", "@", "*")
 
     def read_steps(self, steps):
         """Read steps with slashes between them, and put them behind those that are there."""
-        steps.append(self.read_step())
-        while self.has_sign(("/", "//")):
-            steps.extend(self.read_slash())
+        while True:
             steps.append(self.read_step())
-        return steps
+            kind = self.kinds[self.at]
+            if kind == "//":
+                steps.append(ANYTHING_BELOW)
+            elif kind != "/":
+                return steps
+            self.at += 1
 
     def read_step(self):
         """Read a step."""
-        token = self.peek()
-        if self.has_sign((".", "..")):
-            self.take()
-            return HERE if token[1] == "." else ABOVE
+        kind = self.kinds[self.at]
+        if kind in (".", ".."):
+            self.at += 1
+            return HERE if kind == "." else ABOVE
         # The point of `.5` alone would be a step.
-        if token[0] == "number" and self.begins_step():
-            raise NotPath(token[2] + 1)
-        axis = self.read_axis(AXES)
-        return (axis, self.read_test(), self.read_predicates())
+        if kind == "number" and self.begins_step():
+            raise NotPath(self.peek()[2] + 1)
+        return self.read_step_with(AXES)
+
+    def read_step_with(self, axes):
+        """Read a step with a test, and with one of some axes."""
+        axis = "child"
+        if self.kinds[self.at] == "name" and self.kinds[self.at + 1] not in BEHIND_OTHER_NAMES:
+            test = ("name", self.tokens[self.at][1])
+            self.at += 1
+        else:
+            axis = self.read_axis(axes)
+            test = self.read_test()
+        predicates = self.read_predicates() if self.kinds[self.at] == "[" else ()
+        return (axis, test, predicates)
 
     def read_axis(self, axes):
         """Read an axis of those told, or what stands for one."""
         token = self.peek()
-        if self.has_sign(("@",)):
-            self.take()
+        if self.kinds[self.at] == "@":
+            self.at += 1
             return "attribute"
         if token[0] == "name" and token[1] in axes:
             behind = self.peek_behind()
-            if behind[:2] == ("sign", "::"):
-                self.take()
-                self.take()
+            if behind[1] == "::":
+                self.at += 2
                 return token[1]
             if behind[:2] == ("broken", ":"):
                 raise NotPath(behind[2] + 1)
@@ -222,14 +249,14 @@ class PathReader:
     def read_test(self):
         """Read a test."""
         token = self.peek()
-        if self.has_sign(("*",)):
-            self.take()
+        if self.kinds[self.at] == "*":
+            self.at += 1
             return ("any",)
         if token[0] != "name":
             raise NotPath(token[2])
-        self.take()
+        self.at += 1
         self.check_colon(token)
-        if not self.has_sign(("(",)):
+        if self.kinds[self.at] != "(":
             return ("name", token[1])
         if token[1] not in KINDS:
             raise NotPath(self.peek()[2])
@@ -237,9 +264,9 @@ class PathReader:
 
     def read_kind(self, kind):
         """Read the brackets of a test by the kind of nodes."""
-        self.take()
+        self.at += 1
         target = None
-        if kind == "instruction" and not self.has_sign((")",)):
+        if kind == "instruction" and self.kinds[self.at] != ")":
             target = self.text_of_literal(self.take())
         self.expect(")")
         return ("kind", kind, target)
@@ -253,51 +280,20 @@ class PathReader:
     def read_predicates(self):
         """Read any number of predicates."""
         found = []
-        while self.has_sign(("[",)):
-            self.take()
+        while self.kinds[self.at] == "[":
+            self.at += 1
             found.append(self.read_expression())
             self.expect_behind_operand("]")
         return tuple(found)
 
 
-class OperatorRow:
-    """The operands and operators of one expression, which wait until it is known what binds them."""
-
-    def __init__(self):
-        self.operands = []
-        self.waiting = []
-
-    def ends_with(self, word):
-        """Whether an operator waits last."""
-        return self.waiting[-1:] == [word]
-
-    def put_minus(self):
-        """Put a `-` ahead of an operand."""
-        self.waiting.append("neg")
-
-    def put_operand(self, tree):
-        """Put an operand behind the operator that waits last."""
-        self.operands.append(tree)
-
-    def put_operator(self, word):
-        """Put an operator of two operands behind the last operand."""
-        self.bind(RANKS[word])
-        self.waiting.append(word)
-
-    def bind(self, rank):
-        """Bind all that binds at least as much as a rank."""
-        while self.waiting and RANKS[self.waiting[-1]] >= rank:
-            word = self.waiting.pop()
-            right = self.operands.pop()
-            if word == "neg":
-                self.operands.append(("neg", right))
-            else:
-                self.operands.append((word, self.operands.pop(), right))
-
-    def finished(self):
-        """The tree of them all."""
-        self.bind(0)
-        return self.operands[0]
+def bind(operands, word):
+    """Put an operator with its operands, which stand last, into their place."""
+    right = operands.pop()
+    if word == "neg":
+        operands.append(("neg", right))
+    else:
+        operands.append((word, operands.pop(), right))
 
 
 def common_length(one, other):
@@ -310,7 +306,9 @@ def common_length(one, other):
 
 def shortest_number(text):
     """The text of a number without zeros and a point that mean nothing."""
-    whole, _, fraction = text.partition(".")
-    whole = whole.lstrip("0")
+    if text[0] != "0" and "." not in text:
+        return text
+    front, _, fraction = text.partition(".")
+    front = front.lstrip("0")
     fraction = fraction.rstrip("0")
-    return (whole if whole != "" else "0") + ("." + fraction if fraction != "" else "")
+    return (front if front != "" else "0") + ("." + fraction if fraction != "" else "")

@@ -5,47 +5,54 @@ Besides those that paths are made of there are three sorts that end a text:
 and "broken", anything with which no token begins, or only a part of one.
 """
 
-from pathloom.path_words import SIGNS
-from pathloom.signs import begins_word, goes_on_in_word, is_blank, is_sign
+from pathloom.signs import BLANKS, DIGITS, FIRST_SIGNS, end_of_name, end_of_run, is_sign
 
-DIGITS = "0123456789"
+# Signs that are tokens by themselves, whatever stands behind them.
+LONE_SIGNS = "@$*|+-=()[],"
+# Those that may be longer by a told sign, and whether they are tokens without it.
+LONGER_BY = {"/": "/", ":": ":", ".": ".", "!": "=", "<": "=", ">": "="}
+BROKEN_ALONE = (":", "!")
 
 
 def tokens_in(text):
     """The list of all tokens of a text as far as they go; the last one tells how it ends."""
     found = []
     at = 0
-    while True:
-        at = end_of_blanks(text, at)
-        token = token_at(text, at)
-        found.append(token)
-        if token[0] in ("end", "open", "broken"):
-            return found
-        at += len(token[1])
-
-
-def end_of_blanks(text, at):
-    """The index of the first sign from an index on that is no blank."""
-    while is_blank(text[at:at + 1]):
-        at += 1
-    return at
+    size = len(text)
+    while at < size:
+        sign = text[at]
+        if sign in BLANKS:
+            at += 1
+        elif sign in FIRST_SIGNS:
+            end = end_of_name(text, at)
+            found.append(("name", text[at:end], at))
+            at = end
+        elif sign in LONE_SIGNS:
+            found.append(("sign", sign, at))
+            at += 1
+        else:
+            token = token_at(text, at)
+            found.append(token)
+            if token[0] in ("open", "broken"):
+                return found
+            at += len(token[1])
+    found.append(("end", "", size))
+    return found
 
 
 def token_at(text, at):
-    """The longest token that begins at an index."""
-    sign = text[at:at + 1]
-    if sign == "":
-        return ("end", "", at)
-    if begins_word(sign):
-        return ("name", text[at:end_of_name(text, at)], at)
-    if is_digit(sign) or sign == "." and is_digit(text[at + 1:at + 2]):
+    """The longest token that begins at an index with a sign that is no letter and may not stand for itself."""
+    sign = text[at]
+    behind = text[at + 1:at + 2]
+    if sign in DIGITS or sign == "." and is_digit(behind):
         return ("number", text[at:end_of_number(text, at)], at)
     if sign in ("'", '"'):
         return quoted_token(text, at)
-    for word in SIGNS:
-        if text.startswith(word, at):
-            return ("sign", word, at)
-    return ("broken", sign, at)
+    if sign in LONGER_BY and LONGER_BY[sign] == behind:
+        return ("sign", sign + behind, at)
+    if sign not in LONGER_BY or sign in BROKEN_ALONE:
+        return ("broken", sign, at)
+    return ("sign", sign, at)
 
 
 def is_digit(sign):
@@ -53,26 +60,9 @@ def is_digit(sign):
     return sign != "" and sign in DIGITS
 
 
-def end_of_name(text, at):
-    """The index behind the name that begins at an index."""
-    end = end_of_word(text, at)
-    if text[end:end + 1] == ":" and begins_word(text[end + 1:end + 2]):
-        end = end_of_word(text, end + 1)
-    return end
-
-
-def end_of_word(text, at):
-    """The index behind the word that begins at an index."""
-    while goes_on_in_word(text[at:at + 1]):
-        at += 1
-    return at
-
-
 def end_of_digits(text, at):
     """The index of the first sign from an index on that is no digit."""
-    while is_digit(text[at:at + 1]):
-        at += 1
-    return at
+    return end_of_run(text, at, DIGITS)
 
 
 def end_of_number(text, at):
@@ -91,8 +81,3 @@ def quoted_token(text, at):
     if text[end:end + 1] == text[at]:
         return ("text", text[at:end + 1], at)
     return ("open", text[at:end], at)
-
-
-def is_name(text):
-    """Whether a whole text is a name."""
-    return begins_word(text[:1]) and end_of_name(text, 0) == len(text)

@@ -1,16 +1,14 @@
 """The words and signs that have a meaning in paths."""
 
-SIGNS = (
-    "::", "//", "..", "!=", "<=", ">=", "/", ".", "@", "$", "*", "|", "+", "-", "=", "<", ">", "(", ")", "[", "]", ",",
-)
-
 # From the least to the most binding.
 RANKS = {
     "or": 1, "and": 2, "=": 3, "!=": 3, "<": 4, "<=": 4, ">": 4, ">=": 4,
     "+": 5, "-": 5, "*": 6, "div": 6, "mod": 6, "neg": 7, "union": 8,
 }
 OPERATOR_WORDS = ("and", "or", "div", "mod")
-OPERATOR_SIGNS = ("=", "!=", "<", "<=", ">", ">=", "+", "-", "*", "|")
+OPERATOR_OF_SIGN = {
+    "=": "=", "!=": "!=", "<": "<", "<=": "<=", ">": ">", ">=": ">=", "+": "+", "-": "-", "*": "*", "|": "union",
+}
 
 AXES = (
     "ancestor", "ancestor-or-self", "attribute", "child", "descendant", "descendant-or-self", "following",

@@ -1,31 +1,43 @@
 """The texts of trees of paths: the canonical ones, and those with abbreviated steps."""
 
-from pathloom.path_words import ABOVE, ANYTHING_BELOW, HERE, KIND_WORDS, RANKS, is_operation
+from pathloom.path_words import ABOVE, ANYTHING_BELOW, HERE, KIND_WORDS, RANKS
+
+# The operators that would be read as a test or a name behind a path that ends with `/`.
+LIKE_TESTS = ("*", "and", "or", "div", "mod")
 
 
 def path_text(tree, short):
     """The text of a tree, if `short` with abbreviated steps."""
     # Down the first operands without recursion: rows of operators may be long.
     rows = []
-    while is_operation(tree):
+    while tree[0] in RANKS:
         rows.append(tree)
         tree = tree[1]
     text = operand_text(tree, short)
     for row in rows[::-1]:
         if row[0] == "neg":
-            text = "-" + bracketed(text, needs_brackets(tree, "neg", False))
+            text = "-" + bracketed(text, rank_in(tree) < RANKS["neg"])
         else:
             text = binary_text(row, text, short)
         tree = row
     return text
 
 
+def rank_in(tree):
+    """The rank of the operator that a tree is, a greater one than any if it is none."""
+    return RANKS.get(tree[0], 9)
+
+
 def binary_text(tree, left, short):
     """The text of an operator with two operands, of which the text of the left one is there."""
-    word = tree[0]
-    behind_slash = word in ("*", "and", "or", "div", "mod") and left.endswith("/")
-    left = bracketed(left, behind_slash or needs_brackets(tree[1], word, False))
-    right = bracketed(path_text(tree[2], short), needs_brackets(tree[2], word, True))
+    word, one, other = tree
+    rank = RANKS[word]
+    if rank_in(one) < rank or word in LIKE_TESTS and left.endswith("/"):
+        left = "(" + left + ")"
+    if other[0] in RANKS:
+        right = bracketed(path_text(other, short), RANKS[other[0]] <= rank)
+    else:
+        right = operand_text(other, short)
     return left + (" | " if word == "union" else " " + word + " ") + right
 
 
@@ -34,24 +46,20 @@ def bracketed(text, needed):
     return "(" + text + ")" if needed else text
 
 
-def needs_brackets(operand, word, is_right):
-    """Whether an operand of an operator stands in brackets for the operator that is in it."""
-    if not is_operation(operand):
-        return False
-    return RANKS[operand[0]] < RANKS[word] or is_right and RANKS[operand[0]] == RANKS[word]
-
-
 def operand_text(tree, short):
     """The text of a tree that is no operator."""
-    if tree[0] == "path":
+    word = tree[0]
+    if word == "path":
         return location_text(tree, short)
-    if tree[0] == "filter":
-        return primary_text(tree[1], ("var", "text", "number", "call"), short) + predicates_text(tree[2], short)
-    if tree[0] == "call":
-        return tree[1] + "(" + ", ".join([path_text(part, short) for part in tree[2]]) + ")"
-    if tree[0] == "var":
+    if word == "number":
+        return tree[1]
+    if word == "text":
+        return quoted(tree[1])
+    if word == "var":
         return "$" + tree[1]
-    return quoted(tree[1]) if tree[0] == "text" else tree[1]
+    if word == "filter":
+        return primary_text(tree[1], ("var", "text", "number", "call"), short) + predicates_text(tree[2], short)
+    return tree[1] + "(" + ", ".join([path_text(part, short) for part in tree[2]]) + ")"
 
 
 def primary_text(tree, bare, short):
@@ -71,16 +79,19 @@ def predicates_text(predicates, short):
 
 def location_text(tree, short):
     """The text of a location path."""
-    start = ""
-    if tree[1] is not None and tree[1] != "root":
-        start = primary_text(tree[1], ("var", "text", "number", "call", "filter"), short)
-    if tree[2] == ():
-        return "/"
-    return start + steps_text(tree[2], tree[1] is not None, short, short)
+    _, start, steps = tree
+    if start is None:
+        return steps_text(steps, False, short, short)
+    if start == "root":
+        return steps_text(steps, True, short, short) if steps != () else "/"
+    front = primary_text(start, ("var", "text", "number", "call", "filter"), short)
+    return front + steps_text(steps, True, short, short)
 
 
 def steps_text(steps, behind_slash, slashes, short):
     """The text of steps, `//` made of some of them if `slashes`, abbreviated if `short`."""
+    if len(steps) == 1:
+        return ("/" if behind_slash else "") + step_text(steps[0], short)
     pieces = []
     slash = "/" if behind_slash else ""
     for at, step in enumerate(steps):
@@ -102,13 +113,12 @@ def step_text(step, short):
     ahead = axis + "::"
     if short and axis in ("child", "attribute"):
         ahead = "" if axis == "child" else "@"
-    return ahead + test_text(test) + predicates_text(predicates, short)
+    text = ahead + (test[1] if test[0] == "name" else test_text(test))
+    return text + predicates_text(predicates, short) if predicates != () else text
 
 
 def test_text(test):
-    """The text of a test."""
-    if test[0] == "name":
-        return test[1]
+    """The text of a test that is no name."""
     if test[0] == "any":
         return "*"
     target = quoted(test[2]) if test[2] is not None else ""

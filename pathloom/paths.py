@@ -2,21 +2,26 @@
 
 from pathloom.errors import BadValue
 from pathloom.path_reading import PathReader
-from pathloom.path_tokens import tokens_in
 from pathloom.path_writing import path_text
 
 
 def tokens(text):
     """The tokens of a path: tuples (sort, text, place)."""
-    tree_of(text)
-    return tokens_in(text)[:-1]
+    reader = reader_of(text)
+    reader.read_path()
+    return reader.tokens[:-1]
 
 
 def tree_of(text):
     """The tree of a path; NotPath tells how much of the text a path begins with."""
+    return reader_of(text).read_path()
+
+
+def reader_of(text):
+    """A reader of a path; BadValue for what is no text."""
     if not isinstance(text, str):
         raise BadValue("a path is a text")
-    return PathReader(text, False).read_path()
+    return PathReader(text, False)
 
 
 def canonical(text):

@@ -74,16 +74,11 @@ class PatternReader:
     def read_pattern_steps(self, steps):
         """Read steps with slashes between them, and put them behind those that are there."""
         reader = self.reader
-        steps.append(self.read_pattern_step())
+        steps.append(reader.read_step_with(PATTERN_AXES))
         while reader.has_sign(("/", "//")):
             steps.extend(reader.read_slash())
-            steps.append(self.read_pattern_step())
+            steps.append(reader.read_step_with(PATTERN_AXES))
         return tuple(steps)
-
-    def read_pattern_step(self):
-        """Read a step."""
-        axis = self.reader.read_axis(PATTERN_AXES)
-        return (axis, self.reader.read_test(), self.reader.read_predicates())
 
 
 def alternative_text(tree):

@@ -1,21 +1,18 @@
 """Parts of plain stylesheets: tests, selects, and what is left of bodies."""
 
-from pathloom.path_tokens import tokens_in
-
-
-def texts_of_tokens(text):
-    """The texts of the tokens of a path, and their sorts."""
-    rows = tokens_in(text)[:-1]
-    return [row[1] for row in rows], [row[0] for row in rows]
+from pathloom.modules import WHITE_SPACE
+from pathloom.signs import is_name
 
 
 def plain_test(piece):
     """What an if or a when tests: the name, and whether a child of it must be there; None if it tests other things."""
-    texts, sorts = texts_of_tokens(piece.attribute_text("test"))
-    if sorts == ["name"]:
-        return (texts[0], True)
-    if sorts == ["name", "sign", "name", "sign"] and texts[:2] == ["not", "("] and texts[3] == ")":
-        return (texts[2], False)
+    text = piece.attribute_text("test").strip(WHITE_SPACE)
+    if is_name(text):
+        return (text, True)
+    inner = text.removeprefix("not").lstrip(WHITE_SPACE)
+    if inner != text and inner[:1] == "(" and inner.endswith(")"):
+        name = inner[1:-1].strip(WHITE_SPACE)
+        return (name, False) if is_name(name) else None
     return None
 
 
@@ -24,17 +21,15 @@ def plain_select(piece):
     text = piece.attribute_text("select")
     if text is None:
         return None
-    texts, sorts = texts_of_tokens(text)
-    if texts == ["*"]:
-        return texts
-    if [sort for sort in sorts[::2] if sort != "name"] != [] or [sign for sign in texts[1::2] if sign != "|"] != []:
-        return None
-    return texts[::2]
+    names = [name.strip(WHITE_SPACE) for name in text.split("|")]
+    if names == ["*"] or [name for name in names if not is_name(name)] == []:
+        return names
+    return None
 
 
 def is_literal(piece):
     """Whether a part of a body is a literal element."""
-    return not piece.is_text() and not piece.name.startswith("xsl:")
+    return piece.word is None and piece.name is not None
 
 
 def is_passed(piece, names):
@@ -49,11 +44,12 @@ def left_of(parts, names):
     waiting = parts[::-1]
     while waiting:
         part = waiting.pop()
-        if part.is_word("choose"):
+        word = part.word
+        if word == "choose":
             waiting.extend(chosen(part, names)[::-1])
-        elif not part.is_word("if"):
+        elif word != "if":
             # An empty xsl:text counts as nothing.
-            if not part.is_word("text") or part.content != []:
+            if word != "text" or part.content != []:
                 found.append(part)
         elif is_passed(part, names):
             waiting.extend(part.content[::-1])

@@ -2,9 +2,9 @@
 
 from pathloom.errors import NotPlain
 from pathloom.modules import WHITE_SPACE
-from pathloom.path_tokens import is_name
 from pathloom.plain_bodies import is_literal, left_of, plain_select, plain_test, subsets_of
 from pathloom.sheets import Sheet
+from pathloom.signs import is_name
 
 MOST_TESTED = 4
 

@@ -2,11 +2,11 @@
 
 from pathloom.errors import BadValue
 from pathloom.machine import Machine
-from pathloom.path_tokens import is_name
 from pathloom.programs import program_of
 from pathloom.result_trees import nodes_made
 from pathloom.sheet_worlds import SheetWorld
 from pathloom.sheets import Sheet
+from pathloom.signs import is_name
 from pathloom.stripping import stripped_source
 from pathloom.trees import Tree, check_tree, place_of
 

@@ -1,7 +1,7 @@
 """The smallest parts of documents, read one behind the other."""
 
 from pathloom.errors import NotDocument
-from pathloom.signs import begins_word, goes_on_in_word, is_blank, leads_to_sign, referred_sign
+from pathloom.signs import BLANKS, end_of_name, end_of_run, is_blank, is_first, leads_to_sign, referred_sign
 
 NAMED_SIGNS = {"lt;": "<", "gt;": ">", "amp;": "&", "quot;": '"', "apos;": "'"}
 DECIMAL = "0123456789"
@@ -23,12 +23,11 @@ class Scanner:
         """The next sign, the empty text at the end."""
         return self.text[self.at:self.at + 1]
 
-    def is_done(self):
-        """Whether all signs were read."""
-        return self.at == len(self.text)
-
     def expect(self, word):
         """Read a text that must stand here."""
+        if self.text.startswith(word, self.at):
+            self.at += len(word)
+            return
         for sign in word:
             if self.peek() != sign:
                 raise NotDocument(self.at)
@@ -36,15 +35,14 @@ class Scanner:
 
     def read_one_of(self, words):
         """Read and return the one of some words that stands here; none of them begins another."""
-        start = self.at
-        while not self.is_done():
-            piece = self.text[start:self.at + 1]
-            if not [word for word in words if word.startswith(piece)]:
-                break
-            self.at += 1
-            if piece in words:
-                return piece
-        raise NotDocument(self.at)
+        for word in words:
+            if self.text.startswith(word, self.at):
+                self.at += len(word)
+                return word
+        end = self.at
+        while end < len(self.text) and [word for word in words if word.startswith(self.text[self.at:end + 1])] != []:
+            end += 1
+        raise NotDocument(end)
 
     def read_up_to(self, end):
         """Read as far as the first place of a text, and this; return what is ahead of it."""
@@ -57,32 +55,32 @@ class Scanner:
 
     def read_blanks(self):
         """Read any number of blanks; return whether there was one."""
-        start = self.at
-        while is_blank(self.peek()):
-            self.at += 1
-        return self.at > start
+        at = self.at
+        if not is_blank(self.text[at:at + 1]):
+            return False
+        self.at = end_of_run(self.text, at, BLANKS)
+        return True
 
     def read_name(self):
         """Read and return a name."""
         start = self.at
-        self.read_word()
-        if self.peek() == ":":
-            self.at += 1
-            self.read_word()
-        return self.text[start:self.at]
-
-    def read_word(self):
-        """Read a word."""
-        if not begins_word(self.peek()):
-            raise NotDocument(self.at)
-        while goes_on_in_word(self.peek()):
-            self.at += 1
+        if not is_first(self.text[start:start + 1]):
+            raise NotDocument(start)
+        self.at = end_of_name(self.text, start)
+        name = self.text[start:self.at]
+        if self.peek() == ":" and ":" not in name:
+            # What stands behind the colon begins no second word.
+            raise NotDocument(self.at + 1)
+        return name
 
     def read_plain(self):
         """Read and return the signs of a content as far as the next one that begins another part."""
-        end = self.at
-        while end < len(self.text) and self.text[end] not in ("<", "&"):
-            end += 1
+        end = self.text.find("<", self.at)
+        if end < 0:
+            end = len(self.text)
+        reference = self.text.find("&", self.at, end)
+        if reference >= 0:
+            end = reference
         wrong = self.text.find("]]>", self.at, end)
         if wrong >= 0:
             raise NotDocument(wrong + 2)
@@ -127,6 +125,11 @@ class Scanner:
     def read_attribute_text(self):
         """Read a text in quotation marks; return what it stands for."""
         quote = self.read_one_of(('"', "'"))
+        end = self.text.find(quote, self.at)
+        signs = self.text[self.at:end]
+        if end >= 0 and "<" not in signs and "&" not in signs:
+            self.at = end + 1
+            return signs.replace("\t", " ").replace("\n", " ")
         pieces = []
         while self.peek() != quote:
             sign = self.peek()

@@ -4,9 +4,9 @@ from pathloom.contexts import World, start_context
 from pathloom.decimals import text_of_number, whole
 from pathloom.errors import BadValue
 from pathloom.evaluating import value_of
-from pathloom.path_tokens import is_name
 from pathloom.paths import tree_of
 from pathloom.places import node_at
+from pathloom.signs import is_name
 from pathloom.trees import places_of
 
 

@@ -6,8 +6,6 @@ module) in the order of reading.
 
 from pathloom.element_reading import SETS
 from pathloom.errors import NotSheet
-from pathloom.modules import PREFIX
-from pathloom.path_words import variables_in
 
 
 def check_whole(parts):
@@ -19,7 +17,7 @@ def check_whole(parts):
 
 def is_global(piece):
     """Whether a part at the top level is a variable or a param."""
-    return piece.is_word("variable") or piece.is_word("param")
+    return piece.word in ("variable", "param")
 
 
 def counting_globals(parts):
@@ -47,7 +45,7 @@ def set_pieces(parts):
 def used_sets(piece):
     """The names of the attribute sets that an element uses."""
     # Without the prefix it is an attribute like others on a literal element.
-    return piece.meant.get("use-attribute-sets" if piece.name.startswith(PREFIX) else SETS, [])
+    return piece.meant.get("use-attribute-sets" if piece.word is not None else SETS, [])
 
 
 class Walk:
@@ -60,13 +58,14 @@ class Walk:
 
     def walk_content(self, piece, around):
         """Meet all elements in an element, where some variables are visible."""
-        visible = dict(around)
+        visible = around
         for part in piece.content:
-            if not part.is_text():
+            if part.name is not None:
                 self.meet(part, visible)
-                self.walk_content(part, visible)
+                if part.content != []:
+                    self.walk_content(part, visible)
                 if is_global(part):
-                    visible[part.meant["name"]] = True
+                    visible = {**visible, part.meant["name"]: True}
 
     def meet(self, piece, visible):
         """Meet an element; the classes below tell what for."""
@@ -89,7 +88,7 @@ class UnknownWalk(Walk):
 
     def meet(self, piece, visible):
         """Look at all that an element names."""
-        for name in variables_of(piece):
+        for name in piece.variables:
             if name not in visible:
                 self.look_up("global", name, piece)
         if piece.is_word("call-template"):
@@ -111,14 +110,9 @@ class UseWalk(Walk):
 
     def meet(self, piece, visible):
         """Find those that an element uses."""
-        for name in variables_of(piece):
+        for name in piece.variables:
             if name not in visible:
                 self.found[name] = True
-
-
-def variables_of(piece):
-    """The names of the variables in the attributes of an element."""
-    return [name for tree in piece.paths for name in variables_in(tree)]
 
 
 def check_twice(parts):

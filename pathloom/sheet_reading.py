@@ -80,10 +80,10 @@ class SheetReader:
             if not piece.is_blank_text():
                 raise NotSheet(piece.place, "text")
             return
-        if not piece.name.startswith(PREFIX) and ":" in piece.name:
+        word = piece.word
+        if word is None and ":" in piece.name:
             return
-        word = piece.name.removeprefix(PREFIX)
-        if word == piece.name or word not in TOP_WORDS or word == "import" and module.is_behind_imports:
+        if word is None or word not in TOP_WORDS or word == "import" and module.is_behind_imports:
             raise NotSheet(piece.place, "element")
         if word != "import":
             module.is_behind_imports = True
@@ -116,8 +116,9 @@ class SheetReader:
 
 def simplified_template(tree, top, name):
     """The template that a simplified module stands for, of which the root element is the body."""
-    template = Piece(outermost_node(tree), "", name)
+    template = Piece(outermost_node(tree), "", top.place)
     template.name = PREFIX + "template"
+    template.word = "template"
     template.attributes = []
     template.meant = {"match": pattern_trees("/")}
     template.content = [top]

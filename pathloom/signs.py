@@ -6,6 +6,55 @@ REFERABLE = (
     "ABCDEFGHIJKLMNOPQRSTUVWXYZ[\\]^_`abcdefghijklmnopqrstuvwxyz{|}~"
 )
 
+BLANKS = " \t\n"
+DIGITS = "0123456789"
+# What words begin with, and what they go on with.
+FIRST_SIGNS = "_ABCDEFGHIJKLMNOPQRSTUVWXYZabcdefghijklmnopqrstuvwxyz"
+WORD_SIGNS = "_-.0123456789ABCDEFGHIJKLMNOPQRSTUVWXYZabcdefghijklmnopqrstuvwxyz"
+# How many signs are looked at together.
+PIECE = 32
+
+
+def end_of_run(text, at, signs):
+    """The index of the first sign of a text from an index on that is none of some signs."""
+    while True:
+        piece = text[at:at + PIECE]
+        rest = piece.lstrip(signs)
+        at += len(piece) - len(rest)
+        if rest != "" or piece == "":
+            return at
+
+
+def end_of_name(text, at):
+    """The index behind the name that begins at an index."""
+    piece = text[at:at + PIECE]
+    rest = piece.lstrip(WORD_SIGNS)
+    if rest == "":
+        return at + len(piece) if len(piece) < PIECE else end_of_long_name(text, at)
+    if rest[0] == ":" and is_first(rest[1:2]):
+        rest = rest[1:].lstrip(WORD_SIGNS)
+        if rest == "":
+            return end_of_long_name(text, at)
+    return at + len(piece) - len(rest)
+
+
+def end_of_long_name(text, at):
+    """The same of a name that may be longer than what is looked at together."""
+    end = end_of_run(text, at, WORD_SIGNS)
+    if text[end:end + 1] == ":" and is_first(text[end + 1:end + 2]):
+        end = end_of_run(text, end + 1, WORD_SIGNS)
+    return end
+
+
+def is_first(sign):
+    """Whether a word may begin with a sign; the empty text is none."""
+    return sign != "" and sign in FIRST_SIGNS
+
+
+def is_name(text):
+    """Whether a whole text is a name."""
+    return text != "" and text[0] in FIRST_SIGNS and end_of_name(text, 0) == len(text)
+
 
 def is_blank(sign):
     """Whether a sign is a blank; the empty text, which stands behind a text's end, is none."""
@@ -19,10 +68,17 @@ def is_sign(character):
 
 def end_of_signs(text):
     """The index of the first character that is no sign, or the length of the text."""
+    if is_plain(text) or is_plain(text.replace("\n", "").replace("\t", "")):
+        return len(text)
     for at, character in enumerate(text):
         if not is_sign(character):
             return at
     return len(text)
+
+
+def is_plain(text):
+    """Whether a text consists of signs that are no tabs and no line feeds."""
+    return text.isascii() and text.isprintable()
 
 
 def begins_word(sign):

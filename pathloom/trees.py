@@ -54,10 +54,10 @@ class Tree:
             node.order = order
             node.end = order
             node.tree = self
-        for node in self.nodes[::-1]:
+        for node in self.nodes[:0:-1]:
             above = node.parent
-            if above is not None:
-                above.end = max(above.end, node.end)
+            if above.end < node.end:
+                above.end = node.end
 
 
 def nodes_in(top):
@@ -68,8 +68,10 @@ def nodes_in(top):
     while waiting:
         node = waiting.pop()
         found.append(node)
-        found.extend(node.attributes)
-        waiting.extend(node.children[::-1])
+        if node.attributes:
+            found.extend(node.attributes)
+        if node.children:
+            waiting.extend(node.children[::-1])
     return found
 
 
