@@ -114,8 +114,19 @@ def all_of(nodes):
     return nodes
 
 
+def nodes_with_axis(axis, nodes):
+    """Some nodes without such as have no nodes on an axis, where this is seen at once."""
+    if axis == "child":
+        return [node for node in nodes if node.children]
+    if axis == "attribute":
+        return [node for node in nodes if node.attributes]
+    return nodes
+
+
 def enough_starts(axis, nodes):
     """Those of some nodes in document order whose nodes of an axis are the nodes from all of them."""
+    if axis in ("child", "attribute"):
+        return nodes_with_axis(axis, nodes)
     if axis in ("descendant", "descendant-or-self"):
         return outermost(nodes)
     if axis == "following":

@@ -8,7 +8,7 @@ which has the current node, the variables and the world.
 from pathloom.decimals import OPERATION_OF, negated, number_of_text
 from pathloom.functions import FUNCTION_IN_CONTEXT, FUNCTION_OF, takes_context_node
 from pathloom.path_words import RANKS, is_operation, sort_of_value
-from pathloom.steps import joined_steps, predicate_function, step_function
+from pathloom.steps import joined_steps, predicate_function, step_functions
 from pathloom.trees import in_order
 from pathloom.values import is_true_of, nodes_of, to_number, to_truth
 
@@ -57,28 +57,50 @@ def filter_function(tree, trees):
     return pass_all
 
 
-def steps_function(steps):
-    """The function (nodes, scene) of steps, one behind the other."""
-    takes = [step_function(axis, test, predicates_of(trees)) for axis, test, trees in joined_steps(steps)]
-    if len(takes) == 1:
-        return takes[0]
+def steps_functions(steps):
+    """The functions of steps one behind the other, from one node and from some nodes."""
+    pairs = [step_functions(axis, test, predicates_of(trees)) for axis, test, trees in joined_steps(steps)]
+    if pairs == []:
+        return own_node, own_nodes
+    if len(pairs) == 1:
+        return pairs[0]
+    first_from_one, first = pairs[0]
+    behind = [take for _, take in pairs[1:]]
 
-    def take_all(nodes, scene):
-        """The nodes that all steps lead to."""
-        for take in takes:
+    def take_all_from(node, scene):
+        """The nodes that all steps lead to from one node."""
+        nodes = first_from_one(node, scene)
+        for take in behind:
             nodes = take(nodes, scene)
         return nodes
 
-    return take_all
+    def take_all(nodes, scene):
+        """The nodes that all steps lead to from some nodes."""
+        nodes = first(nodes, scene)
+        for take in behind:
+            nodes = take(nodes, scene)
+        return nodes
+
+    return take_all_from, take_all
+
+
+def own_node(node, scene):
+    """The node that no steps lead to from one node: itself."""
+    return [node]
+
+
+def own_nodes(nodes, scene):
+    """The nodes that no steps lead to from some nodes: themselves."""
+    return nodes
 
 
 def path_function(start, steps):
     """The function of a location path."""
-    take = steps_function(steps)
+    take_from, take = steps_functions(steps)
     if start is None:
-        return lambda node, position, size, scene: ("nodes", take([node], scene))
+        return lambda node, position, size, scene: ("nodes", take_from(node, scene))
     if start == "root":
-        return lambda node, position, size, scene: ("nodes", take([node.tree.root], scene))
+        return lambda node, position, size, scene: ("nodes", take_from(node.tree.root, scene))
     begin = compiled(start)
 
     def take_from_start(node, position, size, scene):
@@ -118,7 +140,10 @@ def operator_function(tree):
         rows.append(tree)
         tree = tree[1]
     first = compiled(tree)
-    goes = [row_function(row) for row in rows[::-1]]
+    goes = []
+    for row in rows[::-1]:
+        second = compiled(row[2]) if len(row) > 2 else None
+        goes.append(row_function(row[0], second))
 
     def operate(node, position, size, scene):
         """The value of all the operators, the one that binds most first."""
@@ -130,12 +155,10 @@ def operator_function(tree):
     return operate
 
 
-def row_function(tree):
+def row_function(word, second):
     """The function (value, node, position, size, scene) of an operator of which the first operand has a value."""
-    word = tree[0]
     if word == "neg":
         return lambda value, node, position, size, scene: ("number", negated(to_number(value)))
-    second = compiled(tree[2])
     if word in ("or", "and"):
         return truth_row(second, word == "or")
     if word == "union":

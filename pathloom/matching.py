@@ -4,7 +4,7 @@ from pathloom.errors import BadValue
 from pathloom.keys import KeyWorld, read_key_rows
 from pathloom.patterns import alternative_text, nodes_that_fit, pattern_trees, priority_of
 from pathloom.signs import is_name
-from pathloom.trees import check_tree, place_of
+from pathloom.trees import check_tree, places_of
 
 
 def pattern_text(text):
@@ -22,7 +22,7 @@ def fitting(text, tree, key_rows=()):
     trees = checked_pattern(text)
     check_tree(tree)
     world = KeyWorld(read_key_rows(key_rows))
-    return [place_of(node) for node in nodes_that_fit(trees, tree, world)]
+    return places_of(nodes_that_fit(trees, tree, world))
 
 
 def key_nodes(tree, key_rows, key_name, word):
@@ -33,7 +33,7 @@ def key_nodes(tree, key_rows, key_name, word):
         raise BadValue("the name of a key is a name")
     if not isinstance(word, str):
         raise BadValue("a word is a text")
-    return [place_of(node) for node in world.key_nodes_for(tree, key_name, [word])]
+    return places_of(world.key_nodes_for(tree, key_name, [word]))
 
 
 def checked_pattern(text):

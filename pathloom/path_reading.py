@@ -8,6 +8,7 @@ from pathloom.path_words import (
 
 # What may stand right behind a name so that it is no test by this name.
 BEHIND_OTHER_NAMES = ("::", "(", "broken")
+LITERALS = ("number", "text", "open")
 # What may stand right behind a name so that it is not alone a path.
 BEHIND_LONGER_PATHS = ("::", "(", "broken", "[", "/", "//")
 
@@ -65,7 +66,8 @@ class PathReader:
                 self.at += 1
                 waiting.append("neg")
             operands.append(self.read_operand())
-            word = self.operator_here()
+            kind = kinds[self.at]
+            word = self.operator_word() if kind == "name" else OPERATOR_OF_SIGN.get(kind)
             rank = RANKS[word] if word is not None else 0
             while waiting and RANKS[waiting[-1]] >= rank:
                 bind(operands, waiting.pop())
@@ -74,13 +76,10 @@ class PathReader:
             self.at += 1
             waiting.append(word)
 
-    def operator_here(self):
-        """The operator that stands here; None if none does."""
-        kind = self.kinds[self.at]
-        if kind == "name":
-            word = self.tokens[self.at][1]
-            return word if word in OPERATOR_WORDS else None
-        return OPERATOR_OF_SIGN.get(kind)
+    def operator_word(self):
+        """The name that stands here if it is an operator, otherwise None."""
+        word = self.tokens[self.at][1]
+        return word if word in OPERATOR_WORDS else None
 
     def end_behind_operand(self):
         """The place as far as which the next token can go on behind an operand, where it must not stand."""
@@ -113,7 +112,7 @@ class PathReader:
                 return ("path", None, (("child", ("name", self.tokens[self.at - 1][1]), ()),))
             if behind == "(" and self.is_function(self.tokens[self.at][1]):
                 return self.read_behind(self.read_call())
-        elif kind in ("number", "text", "open"):
+        elif kind in LITERALS:
             return self.read_behind(self.read_literal())
         elif kind in ("/", "//"):
             return self.read_rooted()
@@ -172,9 +171,11 @@ class PathReader:
 
     def read_behind(self, tree):
         """Read the predicates and the steps behind a primary."""
-        if self.kinds[self.at] == "[":
+        kind = self.kinds[self.at]
+        if kind == "[":
             tree = ("filter", tree, self.read_predicates())
-        if self.kinds[self.at] not in ("/", "//"):
+            kind = self.kinds[self.at]
+        if kind != "/" and kind != "//":
             return tree
         steps = self.read_slash()
         return ("path", tree, tuple(self.read_steps(steps)))

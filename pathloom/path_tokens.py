@@ -5,33 +5,44 @@ Besides those that paths are made of there are three sorts that end a text:
 and "broken", anything with which no token begins, or only a part of one.
 """
 
-from pathloom.signs import BLANKS, DIGITS, FIRST_SIGNS, end_of_name, end_of_run, is_sign
+from pathloom.signs import BLANKS, DIGITS, FIRST_SIGNS, end_of_run, end_of_signs, is_first
 
 # Signs that are tokens by themselves, whatever stands behind them.
 LONE_SIGNS = "@$*|+-=()[],"
 # Those that may be longer by a told sign, and whether they are tokens without it.
 LONGER_BY = {"/": "/", ":": ":", ".": ".", "!": "=", "<": "=", ">": "="}
 BROKEN_ALONE = (":", "!")
+# All signs that stand in no word become spaces.
+WORDS_ALONE = {
+    9: " ", 10: " ", 33: " ", 34: " ", 35: " ", 36: " ", 37: " ", 38: " ", 39: " ", 40: " ", 41: " ", 42: " ", 43: " ",
+    44: " ", 47: " ", 58: " ", 59: " ", 60: " ", 61: " ", 62: " ", 63: " ", 64: " ", 91: " ", 92: " ", 93: " ",
+    94: " ", 96: " ", 123: " ", 124: " ", 125: " ", 126: " ",
+}
 
 
 def tokens_in(text):
     """The list of all tokens of a text as far as they go; the last one tells how it ends."""
+    size = end_of_signs(text)
+    if size < len(text):
+        return tokens_ahead_of_end(text, size)
     found = []
+    words = text.translate(WORDS_ALONE) + " "
     at = 0
-    size = len(text)
     while at < size:
         sign = text[at]
         if sign in BLANKS:
             at += 1
         elif sign in FIRST_SIGNS:
-            end = end_of_name(text, at)
+            end = words.find(" ", at)
+            if text[end:end + 1] == ":" and is_first(text[end + 1:end + 2]):
+                end = words.find(" ", end + 1)
             found.append(("name", text[at:end], at))
             at = end
         elif sign in LONE_SIGNS:
             found.append(("sign", sign, at))
             at += 1
         else:
-            token = token_at(text, at)
+            token = token_at(text, at, words.find(" ", at))
             found.append(token)
             if token[0] in ("open", "broken"):
                 return found
@@ -40,11 +51,22 @@ def tokens_in(text):
     return found
 
 
-def token_at(text, at):
-    """The longest token that begins at an index with a sign that is no letter and may not stand for itself."""
+def tokens_ahead_of_end(text, size):
+    """The tokens of a text of which no sign stands at an index."""
+    found = tokens_in(text[:size])
+    if found[-1][0] == "end":
+        found[-1] = ("broken", text[size], size)
+    return found
+
+
+def token_at(text, at, end):
+    """The token at an index, of a sign that is no letter and may not stand for itself; its word ends at `end`."""
     sign = text[at]
+    word = text[at:end]
+    if word.isdigit() or word.replace(".", "", 1).isdigit():
+        return ("number", word, at)
     behind = text[at + 1:at + 2]
-    if sign in DIGITS or sign == "." and is_digit(behind):
+    if sign in DIGITS or sign == "." and behind.isdigit():
         return ("number", text[at:end_of_number(text, at)], at)
     if sign in ("'", '"'):
         return quoted_token(text, at)
@@ -75,9 +97,7 @@ def end_of_number(text, at):
 
 def quoted_token(text, at):
     """The text in quotation marks that begins at an index."""
-    end = at + 1
-    while end < len(text) and text[end] != text[at] and is_sign(text[end]):
-        end += 1
-    if text[end:end + 1] == text[at]:
-        return ("text", text[at:end + 1], at)
-    return ("open", text[at:end], at)
+    end = text.find(text[at], at + 1)
+    if end < 0:
+        return ("open", text[at:], at)
+    return ("text", text[at:end + 1], at)

@@ -2,9 +2,10 @@
 
 from pathloom.contexts import start_context
 from pathloom.errors import NotPath, NotPattern
-from pathloom.evaluating import steps_function, value_of
+from pathloom.evaluating import steps_functions, value_of
 from pathloom.path_reading import PathReader
 from pathloom.path_writing import path_text, steps_text
+from pathloom.trees import in_order
 
 PATTERN_AXES = ("attribute", "child")
 LITERALS_OF = {"key": 2, "id": 1}
@@ -105,11 +106,10 @@ def priority_of(tree):
 
 def nodes_that_fit(trees, tree, world):
     """The nodes of a tree that fit a pattern, given by the trees of its alternatives, in document order."""
-    fits = {}
+    found = []
     for alternative in trees:
-        for node in nodes_of_alternative(alternative, tree, world):
-            fits[node] = True
-    return [node for node in tree.nodes if node in fits]
+        found.extend(nodes_of_alternative(alternative, tree, world))
+    return in_order(found) if len(trees) > 1 else found
 
 
 def nodes_of_alternative(alternative, tree, world):
@@ -117,6 +117,6 @@ def nodes_of_alternative(alternative, tree, world):
     context = start_context(tree.root, world)
     if is_relative(alternative):
         # To begin at every node at once is to ask each node and all nodes above it.
-        take = steps_function(alternative[2])
+        _, take = steps_functions(alternative[2])
         return take(tree.nodes, context)
     return value_of(alternative, context)[1]

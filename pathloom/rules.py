@@ -4,7 +4,7 @@ from pathloom.axes import told_by
 from pathloom.contexts import start_context
 from pathloom.evaluating import compiled, predicates_of
 from pathloom.path_words import ANYTHING_BELOW
-from pathloom.steps import step_function
+from pathloom.steps import step_functions
 
 
 class PatternStep:
@@ -20,7 +20,7 @@ class PatternStep:
         self.kind, self.name = told_by(axis, test)
         self.leads = None
         if predicates != ():
-            self.leads = step_function(axis, test, predicates_of(predicates))
+            self.leads = step_functions(axis, test, predicates_of(predicates))[0]
 
     def passes_test(self, node):
         """Whether a node is on the axis from its parent, and passes the test."""
@@ -36,7 +36,7 @@ class PatternStep:
         """The nodes that the step leads to from a node, as the keys of a dict."""
         if (self, parent) not in world.passed:
             lead = self.leads
-            nodes = lead([parent], start_context(parent, world))
+            nodes = lead(parent, start_context(parent, world))
             world.passed[(self, parent)] = {node: True for node in nodes}
         return world.passed[(self, parent)]
 
@@ -107,22 +107,22 @@ class Rule:
 
 
 class Rules:
-    """All rules, by their modes, those that are to be asked first ahead.
+    """All rules: `ranked` has those of each mode, the ones that are to be asked first ahead.
 
     `known` are those rules of a mode that may fit nodes of a kind and a name.
     """
 
     def __init__(self, by_modes):
-        self.by_modes = {}
+        self.ranked = {}
         for mode in by_modes:
-            self.by_modes[mode] = sorted(by_modes[mode], key=lambda rule: rule.rank, reverse=True)
+            self.ranked[mode] = sorted(by_modes[mode], key=lambda rule: rule.rank, reverse=True)
         self.known = {}
 
     def template_for(self, node, mode, importing, world):
         """The template chosen for a node, None if there is none; of what a template imports if one is given."""
         key = (mode, node.kind, node.name)
         if key not in self.known:
-            self.known[key] = [rule for rule in self.by_modes.get(mode, []) if rule.alternative.may_fit(node)]
+            self.known[key] = [rule for rule in self.ranked.get(mode, []) if rule.alternative.may_fit(node)]
         for rule in self.known[key]:
             if importing is None or importing.low <= rule.template.precedence < importing.precedence:
                 if rule.alternative.fits(node, world):

@@ -5,7 +5,7 @@ leads to, in document order; a predicate one from nodes to those that pass.
 Both take the context of the whole path, too.
 """
 
-from pathloom.axes import BACKWARD, NODES_ON, enough_starts, test_function
+from pathloom.axes import BACKWARD, NODES_ON, enough_starts, nodes_with_axis, test_function
 from pathloom.decimals import UNIT, index_of_position, number_of_text
 from pathloom.path_words import ANYTHING_BELOW
 from pathloom.trees import in_order
@@ -23,31 +23,43 @@ def joined_steps(steps):
     return found
 
 
-def step_function(axis, test, passes):
-    """The function of a step, of which the predicates are functions already."""
+def step_functions(axis, test, passes):
+    """The functions of a step, from one node and from some nodes; those of its predicates are there already."""
     look = NODES_ON[axis]
     keep = test_function(axis, test)
     is_back = axis in BACKWARD
 
-    def take_from(node, scene):
+    def take_ahead(node, scene):
         """The nodes from one node, in the direction of the axis."""
         found = keep(look(node))
         for passing in passes:
             found = passing(found, scene)
         return found
 
+    def take_back(node, scene):
+        """The nodes from one node, in document order, of an axis against it."""
+        return take_ahead(node, scene)[::-1]
+
+    take_from = take_back if is_back else take_ahead
+
     def take(nodes, scene):
         """The nodes from all of some nodes."""
         if len(nodes) == 1:
-            found = take_from(nodes[0], scene)
-            return found[::-1] if is_back else found
-        starts = enough_starts(axis, nodes) if passes == [] else nodes
+            return take_from(nodes[0], scene)
+        starts = nodes_with_axis(axis, nodes) if passes != [] else enough_starts(axis, nodes)
         found = []
         for node in starts:
-            found.extend(take_from(node, scene))
+            found.extend(take_ahead(node, scene))
         return found if is_in_order(axis, starts) else in_order(found)
 
-    return take
+    return take_from, take
+
+
+def existence_function(axis, test):
+    """The function of a predicate that is a step without predicates."""
+    look = NODES_ON[axis]
+    keep = test_function(axis, test)
+    return lambda nodes, scene: [node for node in nodes if keep(look(node))]
 
 
 def is_in_order(axis, nodes):
@@ -70,6 +82,8 @@ def predicate_function(tree, sort, function):
         return position_function(index_of_position(number_of_text(tree[1])))
     if tree == ("call", "last", ()):
         return last_node
+    if tree[0] == "path" and tree[1] is None and len(tree[2]) == 1 and tree[2][0][2] == ():
+        return existence_function(tree[2][0][0], tree[2][0][1])
     if sort in ("nodes", "text", "truth"):
         # What is not empty is true, and True is.
         return lambda nodes, scene: [
