@@ -123,12 +123,12 @@ class Reader:
         """Read the rest of the tag that begins an element."""
         scan = self.scan
         node = Node("element", scan.read_name(), "")
-        if scan.read_blanks():
+        if scan.peek() != ">" and scan.read_blanks():
             self.read_attributes(node)
-        closed = scan.peek() != ">" and scan.read_one_of(("/>", ">")) == "/>"
+        is_open = scan.peek() == ">"
+        scan.expect(">" if is_open else "/>")
         self.put(node)
-        if not closed:
-            scan.expect(">")
+        if is_open:
             self.here = node
 
     def read_attributes(self, node):

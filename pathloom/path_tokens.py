@@ -5,19 +5,13 @@ Besides those that paths are made of there are three sorts that end a text:
 and "broken", anything with which no token begins, or only a part of one.
 """
 
-from pathloom.signs import BLANKS, DIGITS, FIRST_SIGNS, end_of_run, end_of_signs, is_first
+from pathloom.signs import BLANKS, DIGITS, FIRST_SIGNS, end_of_run, end_of_signs, is_first, words_alone
 
 # Signs that are tokens by themselves, whatever stands behind them.
 LONE_SIGNS = "@$*|+-=()[],"
 # Those that may be longer by a told sign, and whether they are tokens without it.
 LONGER_BY = {"/": "/", ":": ":", ".": ".", "!": "=", "<": "=", ">": "="}
 BROKEN_ALONE = (":", "!")
-# All signs that stand in no word become spaces.
-WORDS_ALONE = {
-    9: " ", 10: " ", 33: " ", 34: " ", 35: " ", 36: " ", 37: " ", 38: " ", 39: " ", 40: " ", 41: " ", 42: " ", 43: " ",
-    44: " ", 47: " ", 58: " ", 59: " ", 60: " ", 61: " ", 62: " ", 63: " ", 64: " ", 91: " ", 92: " ", 93: " ",
-    94: " ", 96: " ", 123: " ", 124: " ", 125: " ", 126: " ",
-}
 
 
 def tokens_in(text):
@@ -26,7 +20,7 @@ def tokens_in(text):
     if size < len(text):
         return tokens_ahead_of_end(text, size)
     found = []
-    words = text.translate(WORDS_ALONE) + " "
+    words = words_alone(text)
     at = 0
     while at < size:
         sign = text[at]

@@ -1,7 +1,7 @@
 """The smallest parts of documents, read one behind the other."""
 
 from pathloom.errors import NotDocument
-from pathloom.signs import BLANKS, end_of_name, end_of_run, is_blank, is_first, leads_to_sign, referred_sign
+from pathloom.signs import BLANKS, end_of_run, is_blank, is_first, leads_to_sign, referred_sign, words_alone
 
 NAMED_SIGNS = {"lt;": "<", "gt;": ">", "amp;": "&", "quot;": '"', "apos;": "'"}
 DECIMAL = "0123456789"
@@ -9,7 +9,7 @@ HEXADECIMAL = "0123456789abcdef"
 
 
 class Scanner:
-    """A text of signs, and the index `at` that reading has come to.
+    """A text of signs, and the index `at` that reading has come to; `words` is the text with its words alone.
 
     A method that reads a part raises NotDocument at the first sign with which
     no such part goes on. At the end of the text, each part could still go on.
@@ -17,6 +17,7 @@ class Scanner:
 
     def __init__(self, text):
         self.text = text
+        self.words = words_alone(text)
         self.at = 0
 
     def peek(self):
@@ -55,23 +56,26 @@ class Scanner:
 
     def read_blanks(self):
         """Read any number of blanks; return whether there was one."""
-        at = self.at
-        if not is_blank(self.text[at:at + 1]):
+        if not is_blank(self.text[self.at:self.at + 1]):
             return False
-        self.at = end_of_run(self.text, at, BLANKS)
+        self.at += 1
+        if is_blank(self.text[self.at:self.at + 1]):
+            self.at = end_of_run(self.text, self.at, BLANKS)
         return True
 
     def read_name(self):
         """Read and return a name."""
+        text = self.text
         start = self.at
-        if not is_first(self.text[start:start + 1]):
+        if not is_first(text[start:start + 1]):
             raise NotDocument(start)
-        self.at = end_of_name(self.text, start)
-        name = self.text[start:self.at]
-        if self.peek() == ":" and ":" not in name:
-            # What stands behind the colon begins no second word.
-            raise NotDocument(self.at + 1)
-        return name
+        end = self.words.find(" ", start)
+        if text[end:end + 1] == ":":
+            if end + 1 == len(text) or not is_first(text[end + 1]):
+                raise NotDocument(end + 1)
+            end = self.words.find(" ", end + 1)
+        self.at = end
+        return text[start:end]
 
     def read_plain(self):
         """Read and return the signs of a content as far as the next one that begins another part."""

@@ -13,6 +13,12 @@ FIRST_SIGNS = "_ABCDEFGHIJKLMNOPQRSTUVWXYZabcdefghijklmnopqrstuvwxyz"
 WORD_SIGNS = "_-.0123456789ABCDEFGHIJKLMNOPQRSTUVWXYZabcdefghijklmnopqrstuvwxyz"
 # How many signs are looked at together.
 PIECE = 32
+# All signs that stand in no word become spaces.
+WORDS_ALONE = {
+    9: " ", 10: " ", 33: " ", 34: " ", 35: " ", 36: " ", 37: " ", 38: " ", 39: " ", 40: " ", 41: " ", 42: " ", 43: " ",
+    44: " ", 47: " ", 58: " ", 59: " ", 60: " ", 61: " ", 62: " ", 63: " ", 64: " ", 91: " ", 92: " ", 93: " ",
+    94: " ", 96: " ", 123: " ", 124: " ", 125: " ", 126: " ",
+}
 
 
 def end_of_run(text, at, signs):
@@ -23,6 +29,11 @@ def end_of_run(text, at, signs):
         at += len(piece) - len(rest)
         if rest != "" or piece == "":
             return at
+
+
+def words_alone(text):
+    """A text of signs with a space in the place of each sign that stands in no word, and behind it."""
+    return text.translate(WORDS_ALONE) + " "
 
 
 def end_of_name(text, at):
