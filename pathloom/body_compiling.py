@@ -3,8 +3,8 @@
 from pathloom.element_reading import SETS
 from pathloom.evaluating import compiled
 from pathloom.instructions import (
-    ApplyImports, ApplyTemplates, Body, CallTemplate, Choose, Declaration, ForEach, PutAttribute, PutComment,
-    PutCopies, PutElement, PutInstruction, PutLike, PutText, PutValue, PutVariable, TellMessage,
+    ApplyImports, ApplyTemplates, Body, CallTemplate, Choose, Declaration, ForEach, PutCopies, PutElement, PutLeaf,
+    PutLike, PutText, PutValue, PutVariable, TellMessage,
 )
 from pathloom.sheet_checks import used_sets
 from pathloom.sorting import Sort
@@ -146,12 +146,14 @@ def make_element(piece, compiler):
 
 def make_attribute(piece, compiler):
     """attribute"""
-    return PutAttribute(piece.place, template_of(piece.meant["name"]), compiler.compile_body(piece.body()))
+    name_of = template_of(piece.meant["name"])
+    return PutLeaf(piece.place, "attribute", name_of, compiler.compile_body(piece.body()))
 
 
 def make_instruction(piece, compiler):
     """processing-instruction"""
-    return PutInstruction(piece.place, template_of(piece.meant["name"]), compiler.compile_body(piece.body()))
+    name_of = template_of(piece.meant["name"])
+    return PutLeaf(piece.place, "instruction", name_of, compiler.compile_body(piece.body()))
 
 
 def make_text(piece, compiler):
@@ -161,7 +163,7 @@ def make_text(piece, compiler):
 
 def make_comment(piece, compiler):
     """comment"""
-    return PutComment(piece.place, compiler.compile_body(piece.body()))
+    return PutLeaf(piece.place, "comment", None, compiler.compile_body(piece.body()))
 
 
 def make_message(piece, compiler):

@@ -142,50 +142,31 @@ class PutLike:
             machine.made.put_alike(node, origin)
 
 
-class PutAttribute:
-    """attribute"""
+class PutLeaf:
+    """attribute, processing-instruction and comment, by the kind of the node; a comment has no name."""
 
-    def __init__(self, place, name_of, body):
+    def __init__(self, place, kind, name_of, body):
         self.place = place
+        self.kind = kind
         self.name_of = name_of
         self.content = body
 
     def carry_out(self, machine, situation):
-        """Begin the body."""
-        name_of = self.name_of
-        name = name_of(situation)
-        if not is_name(name) or name == "xmlns":
-            raise Failed("name")
-        machine.begin_apart(self.content, situation, LeafEnd("attribute", name, (self.place, situation.node)))
+        """Begin the body, which makes the text."""
+        name = None
+        if self.kind != "comment":
+            name_of = self.name_of
+            name = name_of(situation)
+            if not may_be_named(self.kind, name):
+                raise Failed("name")
+        machine.begin_apart(self.content, situation, LeafEnd(self.kind, name, (self.place, situation.node)))
 
 
-class PutInstruction:
-    """processing-instruction"""
-
-    def __init__(self, place, name_of, body):
-        self.place = place
-        self.name_of = name_of
-        self.content = body
-
-    def carry_out(self, machine, situation):
-        """Begin the body."""
-        name_of = self.name_of
-        name = name_of(situation)
-        if not is_name(name) or ":" in name or name.lower() == "xml":
-            raise Failed("name")
-        machine.begin_apart(self.content, situation, LeafEnd("instruction", name, (self.place, situation.node)))
-
-
-class PutComment:
-    """comment"""
-
-    def __init__(self, place, body):
-        self.place = place
-        self.content = body
-
-    def carry_out(self, machine, situation):
-        """Begin the body."""
-        machine.begin_apart(self.content, situation, LeafEnd("comment", None, (self.place, situation.node)))
+def may_be_named(kind, name):
+    """Whether an attribute or an instruction that is made may have a name."""
+    if kind == "attribute":
+        return is_name(name) and name != "xmlns"
+    return is_name(name) and ":" not in name and name.lower() != "xml"
 
 
 class TellMessage:

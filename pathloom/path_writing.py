@@ -50,6 +50,8 @@ def operand_text(tree, short):
     """The text of a tree that is no operator."""
     word = tree[0]
     if word == "path":
+        if tree[1] is None and len(tree[2]) == 1:
+            return step_text(tree[2][0], short)
         return location_text(tree, short)
     if word == "number":
         return tree[1]

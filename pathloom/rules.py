@@ -49,11 +49,9 @@ class Alternative:
     """
 
     def __init__(self, tree):
-        self.start = compiled(tree)
-        self.steps = []
-        if tree[0] == "path":
-            self.start = compiled(tree[1]) if tree[1] not in (None, "root") else tree[1]
-            self.steps = [PatternStep(step) for step in tree[2]]
+        begin = tree[1] if tree[0] == "path" else tree
+        self.start = begin if begin in (None, "root") else compiled(begin)
+        self.steps = [PatternStep(step) for step in tree[2]] if tree[0] == "path" else []
 
     def may_fit(self, node):
         """Whether a node passes the test of the last step, or is a root if there is none but `/`."""
