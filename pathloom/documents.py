@@ -69,14 +69,15 @@ class Reader:
 
     def read_part_of_content(self):
         """Read one part of the content of the element that is open, or its end."""
-        sign = self.scan.peek()
+        scan = self.scan
+        sign = scan.peek()
         if sign == "<":
-            self.scan.at += 1
+            scan.at += 1
             self.read_markup()
         elif sign == "&":
-            self.pieces.append(self.scan.read_reference())
+            self.pieces.append(scan.read_reference())
         else:
-            self.pieces.append(self.scan.read_plain())
+            self.pieces.append(scan.read_plain())
 
     def read_markup(self):
         """Read what goes on behind a `<` in a content."""

@@ -29,7 +29,6 @@ class Output:
         """The declaration of a result, the empty text if it is left out."""
         if self.settings.get("omit-xml-declaration") == "yes":
             return ""
-        standalone = ""
-        if "standalone" in self.settings:
-            standalone = f' standalone="{self.settings["standalone"]}"'
+        told = self.settings.get("standalone")
+        standalone = f' standalone="{told}"' if told is not None else ""
         return f'<?xml version="1.0"{standalone}?>\n'

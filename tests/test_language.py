@@ -154,6 +154,31 @@ class Form(unittest.TestCase):
         self.assertFalse(attributes & METHODS)
         self.assertFalse((methods | attributes) & BARRED)
 
+    def test_attributes_are_assigned_through_local_names(self):
+        for path, _, tree in self.each():
+            for node in ast.walk(tree):
+                if isinstance(node, ast.Attribute) and isinstance(node.ctx, ast.Store):
+                    self.assertIsInstance(node.value, ast.Name, (path, node.lineno))
+
+    def test_lambdas_calls_and_comparisons(self):
+        for path, _, tree in self.each():
+            seen = set()
+            for node in ast.walk(tree):
+                if isinstance(node, ast.Lambda):
+                    key = (node.lineno, tuple(part.arg for part in node.args.args))
+                    self.assertNotIn(key, seen, path)
+                    seen.add(key)
+                if isinstance(node, ast.Call):
+                    self.assertIsInstance(node.func, (ast.Name, ast.Attribute), (path, node.lineno))
+                    for part in node.args:
+                        if isinstance(part, ast.Starred):
+                            self.assertIsInstance(part.value, ast.Name, (path, node.lineno))
+                if isinstance(node, ast.Compare):
+                    for word, other in zip(node.ops, node.comparators):
+                        if isinstance(word, (ast.Is, ast.IsNot)):
+                            self.assertIsInstance(other, ast.Constant, (path, node.lineno))
+                            self.assertIn(other.value, (None, True, False))
+
     def test_imports_are_used(self):
         for path, text, tree in self.each():
             used = {node.id for node in ast.walk(tree) if isinstance(node, ast.Name)}
