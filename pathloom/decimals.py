@@ -144,12 +144,6 @@ def remainder(one, other):
 OPERATION_OF = {"+": plus, "-": minus, "*": times, "div": divided, "mod": remainder}
 
 
-def operated(word, one, other):
-    """The number that an operator makes of two numbers."""
-    operation = OPERATION_OF[word]
-    return operation(one, other)
-
-
 def is_below(one, other):
     """Whether a number is below another one."""
     if NAN in (one, other):

@@ -5,7 +5,7 @@ Besides those that paths are made of there are three sorts that end a text:
 and "broken", anything with which no token begins, or only a part of one.
 """
 
-from pathloom.signs import BLANKS, DIGITS, FIRST_SIGNS, end_of_run, end_of_signs, is_first, words_alone
+from pathloom.signs import BLANKS, DIGITS, FIRST_SIGNS, begins_word, end_of_run, end_of_signs, words_alone
 
 # Signs that are tokens by themselves, whatever stands behind them.
 LONE_SIGNS = "@$*|+-=()[],"
@@ -28,7 +28,7 @@ def tokens_in(text):
             at += 1
         elif sign in FIRST_SIGNS:
             end = words.find(" ", at)
-            if text[end:end + 1] == ":" and is_first(text[end + 1:end + 2]):
+            if text[end:end + 1] == ":" and begins_word(text[end + 1:end + 2]):
                 end = words.find(" ", end + 1)
             found.append(("name", text[at:end], at))
             at = end

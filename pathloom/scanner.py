@@ -1,7 +1,7 @@
 """The smallest parts of documents, read one behind the other."""
 
 from pathloom.errors import NotDocument
-from pathloom.signs import BLANKS, end_of_run, is_blank, is_first, leads_to_sign, referred_sign, words_alone
+from pathloom.signs import BLANKS, begins_word, end_of_run, is_blank, leads_to_sign, referred_sign, words_alone
 
 NAMED_SIGNS = {"lt;": "<", "gt;": ">", "amp;": "&", "quot;": '"', "apos;": "'"}
 DECIMAL = "0123456789"
@@ -67,11 +67,11 @@ class Scanner:
         """Read and return a name."""
         text = self.text
         start = self.at
-        if not is_first(text[start:start + 1]):
+        if not begins_word(text[start:start + 1]):
             raise NotDocument(start)
         end = self.words.find(" ", start)
         if text[end:end + 1] == ":":
-            if end + 1 == len(text) or not is_first(text[end + 1]):
+            if end + 1 == len(text) or not begins_word(text[end + 1]):
                 raise NotDocument(end + 1)
             end = self.words.find(" ", end + 1)
         self.at = end

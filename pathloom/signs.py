@@ -36,35 +36,17 @@ def words_alone(text):
     return text.translate(WORDS_ALONE) + " "
 
 
-def end_of_name(text, at):
-    """The index behind the name that begins at an index."""
-    piece = text[at:at + PIECE]
-    rest = piece.lstrip(WORD_SIGNS)
-    if rest == "":
-        return at + len(piece) if len(piece) < PIECE else end_of_long_name(text, at)
-    if rest[0] == ":" and is_first(rest[1:2]):
-        rest = rest[1:].lstrip(WORD_SIGNS)
-        if rest == "":
-            return end_of_long_name(text, at)
-    return at + len(piece) - len(rest)
-
-
-def end_of_long_name(text, at):
-    """The same of a name that may be longer than what is looked at together."""
-    end = end_of_run(text, at, WORD_SIGNS)
-    if text[end:end + 1] == ":" and is_first(text[end + 1:end + 2]):
-        end = end_of_run(text, end + 1, WORD_SIGNS)
-    return end
-
-
-def is_first(sign):
-    """Whether a word may begin with a sign; the empty text is none."""
-    return sign != "" and sign in FIRST_SIGNS
+def is_word(text):
+    """Whether a whole text is a word."""
+    return begins_word(text[:1]) and text.lstrip(WORD_SIGNS) == ""
 
 
 def is_name(text):
     """Whether a whole text is a name."""
-    return text != "" and text[0] in FIRST_SIGNS and end_of_name(text, 0) == len(text)
+    if is_word(text):
+        return True
+    first, _, second = text.partition(":")
+    return is_word(first) and is_word(second)
 
 
 def is_blank(sign):
@@ -93,13 +75,13 @@ def is_plain(text):
 
 
 def begins_word(sign):
-    """Whether a word may begin with a sign."""
-    return sign == "_" or sign.isascii() and sign.isalpha()
+    """Whether a word may begin with a sign; the empty text, which stands behind a text's end, is none."""
+    return sign != "" and sign in FIRST_SIGNS
 
 
 def goes_on_in_word(sign):
     """Whether a sign may stand in a word behind its first one."""
-    return sign in ("_", "-", ".") or sign.isascii() and sign.isalnum()
+    return sign != "" and sign in WORD_SIGNS
 
 
 def referred_sign(number):

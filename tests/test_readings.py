@@ -4,14 +4,17 @@ import random
 import unittest
 
 from pathloom.documents import read
+from pathloom.contexts import World, start_context
 from pathloom.edits import edited, followed, touched_parts
 from pathloom.errors import BadValue, Failed, NotPath
+from pathloom.evaluating import value_of
 from pathloom.places import kind_at, places
+from pathloom.reading_values import Place, Reader
 from pathloom.readings import read_parts
 from pathloom.selecting import select
 from tests.edit_model import drawn_document, drawn_edit
 from tests.plain_axes import Told
-from tests.second_paths import AXES
+from tests.second_paths import AXES, Maker
 from tests.shown import STRANGE
 
 DOCUMENT = "<!--h--><r a='1' id='i'>x<s b='2'><t/>y</s><!--c--><?p q?><u>z</u></r>"
@@ -194,6 +197,26 @@ class Promise(unittest.TestCase):
                     value = sorted(value, key=places(behind).index)
                 self.assertEqual(select(text, behind, there), (sort, value), (text, place, edit))
         self.assertGreater(many, 3000)
+
+    def test_the_same_values_as_without_notes(self):
+        choices = random.Random(62)
+        maker = Maker(choices)
+        counts = {}
+        for _ in range(6000):
+            path = maker.tree(choices.choice([4, 8, 14]))
+            node = choices.choice(read(drawn_document(choices)).nodes)
+            found = []
+            for evaluate in (lambda context: value_of(path, context), lambda context: Reader(context).value_of_tree(path, Place(node, 1, 1))):
+                context = start_context(node, World())
+                context.variables = {"a": ("number", 10 ** 9), "x1": ("text", "1"), "id": ("truth", True)}
+                try:
+                    found.append(evaluate(context))
+                except Failed as error:
+                    found.append(error.fault)
+            self.assertEqual(found[0], found[1], path)
+            sort = found[0] if isinstance(found[0], str) else found[0][0]
+            counts[sort] = counts.get(sort, 0) + 1
+        self.assertGreater(len(counts), 6)
 
     def test_each_part_once_and_there(self):
         choices = random.Random(61)
