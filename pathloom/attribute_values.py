@@ -65,6 +65,8 @@ def read_names(sort, text):
 
 def template_parts(text):
     """The parts of an attribute value template: tuples ("text", text) and ("path", tree)."""
+    if "{" not in text and "}" not in text:
+        return [("text", text)] if text != "" else []
     parts = []
     at = 0
     while at < len(text):

@@ -8,6 +8,7 @@ from pathloom.path_tokens import end_of_digits, end_of_number, is_digit
 
 UNIT = 1000000000
 HALF = 500000000
+MOST_DIGITS = 600
 NAN = "NaN"
 INFINITY = "Infinity"
 BELOW_ALL = "-Infinity"
@@ -39,6 +40,8 @@ def rounded_quotient(number, divisor):
 def number_of_text(text):
     """The number of a text."""
     text = text.strip(" \t\n")
+    if is_short_row(text):
+        return int(text) * UNIT
     size = text.removeprefix("-")
     start_is_right = is_digit(size[:1]) or size[:1] == "." and is_digit(size[1:2])
     if not start_is_right or end_of_number(size, 0) != len(size):
@@ -47,13 +50,22 @@ def number_of_text(text):
     return -number if size != text else number
 
 
+def is_short_row(text):
+    """Whether a text is a row of digits that is not too long for Python itself to convert."""
+    return text.isdigit() and text.isascii() and len(text) <= MOST_DIGITS
+
+
 def decimal_of(text):
     """The decimal of digits with or without a point, rounded."""
     front, _, fraction = text.partition(".")
+    digits = front + fraction[:9].ljust(9, "0")
     number = 0
-    # Digit by digit, as Python itself converts long texts at most as far as it is told to.
-    for sign in front + fraction[:9].ljust(9, "0"):
-        number = number * 10 + (ord(sign) - ord("0"))
+    if is_short_row(digits):
+        number = int(digits)
+    else:
+        # Digit by digit, as Python converts long texts at most as far as it is told to.
+        for sign in digits:
+            number = number * 10 + (ord(sign) - ord("0"))
     return number + 1 if fraction[9:10] >= "5" else number
 
 

@@ -141,21 +141,22 @@ class Reader:
             if name in known:
                 raise NotDocument(scan.at)
             known[name] = True
-            if scan.peek() != "=":
-                scan.read_blanks()
-            scan.expect("=")
-            scan.read_blanks()
             node.put_attribute(Node("attribute", name, scan.read_attribute_text()))
             if not scan.read_blanks():
                 return
 
     def read_end_tag(self):
         """Read the rest of the end tag of the element that is open."""
-        self.scan.expect("/" + self.here.name)
-        if self.scan.peek() != ">":
-            self.scan.read_blanks()
-        self.scan.expect(">")
-        self.put_text()
+        scan = self.scan
+        end = "/" + self.here.name
+        if scan.text.startswith(end + ">", scan.at):
+            scan.at += len(end) + 1
+        else:
+            scan.expect(end)
+            scan.read_blanks()
+            scan.expect(">")
+        if self.pieces != []:
+            self.put_text()
         self.here = self.here.parent
 
     def put(self, node):

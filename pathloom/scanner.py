@@ -127,7 +127,13 @@ class Scanner:
         return number
 
     def read_attribute_text(self):
-        """Read a text in quotation marks; return what it stands for."""
+        """Read the `=` of an attribute and its text in quotation marks; return what this stands for."""
+        if self.text.startswith('="', self.at):
+            self.at += 1
+        else:
+            self.read_blanks()
+            self.expect("=")
+            self.read_blanks()
         quote = self.read_one_of(('"', "'"))
         end = self.text.find(quote, self.at)
         signs = self.text[self.at:end]
