@@ -24,17 +24,21 @@ def tokens_in(text):
     at = 0
     while at < size:
         sign = text[at]
-        if sign in BLANKS:
-            at += 1
-        elif sign in FIRST_SIGNS:
+        if sign in FIRST_SIGNS:
             end = words.find(" ", at)
             if text[end:end + 1] == ":" and begins_word(text[end + 1:end + 2]):
                 end = words.find(" ", end + 1)
             found.append(("name", text[at:end], at))
             at = end
+        elif sign in BLANKS:
+            at += 1
         elif sign in LONE_SIGNS:
             found.append(("sign", sign, at))
             at += 1
+        elif sign == "/":
+            word = "//" if text.startswith("//", at) else "/"
+            found.append(("sign", word, at))
+            at += len(word)
         else:
             token = token_at(text, at, words.find(" ", at))
             found.append(token)
